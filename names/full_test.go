@@ -5,6 +5,7 @@ import (
 	"testing"
 
 	"hexapla/names"
+	"hexapla/texts"
 )
 
 // checkCut holds what Cut answers.
@@ -94,7 +95,7 @@ func TestFullLengths(t *testing.T) {
 // TestCutJoin cuts all short texts of some bytes, holds what is a full name
 // against the grammar, and joins its parts again.
 func TestCutJoin(t *testing.T) {
-	for _, full := range textsOf("{}aZ1.: &\xc3\xa9", 5) {
+	for full := range texts.Short("{}aZ1.: &\xc3\xa9", 5) {
 		parts := fullForm.FindStringSubmatch(full)
 		braced := strings.HasPrefix(full, "{")
 		if parts == nil || !isLocal(parts[2]) || braced && !isSpace(parts[1]) {
@@ -108,9 +109,9 @@ func TestCutJoin(t *testing.T) {
 
 // TestJoinCut joins all short texts of some bytes, and cuts what comes of it.
 func TestJoinCut(t *testing.T) {
-	texts := textsOf("{}a1.&\xc3\xa9", 3)
-	for _, space := range texts {
-		for _, local := range texts {
+	short := texts.Short("{}a1.&\xc3\xa9", 3)
+	for space := range short {
+		for local := range short {
 			full := local
 			if space != "" {
 				full = "{" + space + "}" + local

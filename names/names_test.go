@@ -7,6 +7,7 @@ import (
 	"unicode/utf8"
 
 	"hexapla/names"
+	"hexapla/texts"
 )
 
 // The grammars of the chapter but for the lengths in bytes. They go through
@@ -23,17 +24,6 @@ func isLocal(text string) bool {
 
 func isSpace(text string) bool {
 	return utf8.ValidString(text) && spaceForm.MatchString(text) && len(text) <= 48
-}
-
-// textsOf returns the texts of at most length bytes of an alphabet.
-func textsOf(alphabet string, length int) []string {
-	list := []string{""}
-	for i := 0; len(list[i]) < length; i++ {
-		for j := range len(alphabet) {
-			list = append(list, list[i]+alphabet[j:j+1])
-		}
-	}
-	return list
 }
 
 // allBytes returns each byte once.
@@ -71,7 +61,7 @@ func TestLocal(t *testing.T) {
 // TestLocalBytes asks every byte first in a local name, and behind every other,
 // and in each later place.
 func TestLocalBytes(t *testing.T) {
-	for _, text := range textsOf(allBytes(), 2) {
+	for text := range texts.Short(allBytes(), 2) {
 		if want := isLocal(text); names.Local(text) != want {
 			t.Fatalf("%q: %v", text, !want)
 		}
@@ -115,7 +105,7 @@ func TestSpace(t *testing.T) {
 
 // TestSpaceBytes asks every byte first in a namespace, and behind every other.
 func TestSpaceBytes(t *testing.T) {
-	for _, text := range textsOf(allBytes(), 2) {
+	for text := range texts.Short(allBytes(), 2) {
 		for _, text := range []string{text, text + "u", "u" + text, text + "\xa9"} {
 			if want := isSpace(text); names.Space(text) != want {
 				t.Fatalf("%q: %v", text, !want)

@@ -1,12 +1,12 @@
 package num_test
 
 import (
-	"iter"
 	"regexp"
 	"strings"
 	"testing"
 
 	"hexapla/num"
+	"hexapla/texts"
 )
 
 // The numbers, and what they begin with, as the document's words spell them.
@@ -14,25 +14,6 @@ var (
 	isNumber = regexp.MustCompile(`^-?(0|[1-9][0-9]*)(\.[0-9]+)?([eE][+-]?[0-9]+)?$`)
 	begins   = regexp.MustCompile(`^(-?|-?(0|[1-9][0-9]*)(\.[0-9]*)?|-?(0|[1-9][0-9]*)(\.[0-9]+)?[eE][+-]?[0-9]*)$`)
 )
-
-// textsOf visits the texts of at most length bytes of an alphabet.
-func textsOf(alphabet string, length int) iter.Seq[string] {
-	return func(visit func(string) bool) {
-		var extend func(text string) bool
-		extend = func(text string) bool {
-			if !visit(text) {
-				return false
-			}
-			for i := range len(alphabet) {
-				if len(text) < length && !extend(text+alphabet[i:i+1]) {
-					return false
-				}
-			}
-			return true
-		}
-		extend("")
-	}
-}
 
 func TestMay(t *testing.T) {
 	for _, l := range []struct {
@@ -84,7 +65,7 @@ func TestMayLong(t *testing.T) {
 // TestMayAll holds all short texts of a number's bytes and some others against
 // the grammar.
 func TestMayAll(t *testing.T) {
-	for text := range textsOf("019-+.eE x\xff", 5) {
+	for text := range texts.Short("019-+.eE x\xff", 5) {
 		if a, b := num.May(text); a != begins.MatchString(text) || b != isNumber.MatchString(text) {
 			t.Fatalf("%q: %v %v", text, a, b)
 		}

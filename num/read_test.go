@@ -8,6 +8,7 @@ import (
 
 	"hexapla/api"
 	"hexapla/num"
+	"hexapla/texts"
 )
 
 // isForm tells a normal form, but for its length and the size of its exponent.
@@ -129,7 +130,7 @@ func readable(text string) bool {
 // TestReadAll holds the form of each short text against what a form looks
 // like, against the value of the text, and against what a form is read as.
 func TestReadAll(t *testing.T) {
-	for text := range textsOf("0125-+.eE x", 6) {
+	for text := range texts.Short("0125-+.eE x", 6) {
 		form, e := num.Read(text)
 		if !readable(text) {
 			if form != "" || e != api.ErrNumber {

@@ -9,6 +9,7 @@ import (
 
 	"hexapla/api"
 	"hexapla/quote"
+	"hexapla/texts"
 )
 
 func TestPrint(t *testing.T) {
@@ -97,7 +98,7 @@ func TestPrintDecode(t *testing.T) {
 // TestPrintDecodeAll does so with short texts, and holds what is printed
 // against a reader of JSON.
 func TestPrintDecodeAll(t *testing.T) {
-	for text := range textsOf([]byte("\"\\/un0\n\b\x1f\xc3\xa9"), 4) {
+	for text := range texts.Short("\"\\/un0\n\b\x1f\xc3\xa9", 4) {
 		printed, e := quote.Print(text)
 		if !utf8.ValidString(text) {
 			if printed != "" || e != api.ErrUTF {

@@ -3,13 +3,13 @@ package quote_test
 import (
 	"encoding/json"
 	"fmt"
-	"iter"
 	"strings"
 	"testing"
 	"unicode/utf8"
 
 	"hexapla/api"
 	"hexapla/quote"
+	"hexapla/texts"
 )
 
 // decode steps through text up to its closing " or its first error. It returns
@@ -316,7 +316,7 @@ func TestAfterErrors(t *testing.T) {
 // these but for the length, the surrogates and bytes that form no characters. No
 // blanks are among the bytes, as it takes them behind a string.
 func TestDecodeAll(t *testing.T) {
-	for text := range textsOf([]byte("\"\\un0aF/\x1f\x7f"), 6) {
+	for text := range texts.Short("\"\\un0aF/\x1f\x7f", 6) {
 		var want string
 		wantDone := json.Unmarshal([]byte(`"`+text), &want) == nil
 		got, n, done, e := decode(text)
@@ -329,7 +329,7 @@ func TestDecodeAll(t *testing.T) {
 // TestDecodeBegins holds where a text is refused against a reader of JSON: at
 // the byte with which none that it takes begins.
 func TestDecodeBegins(t *testing.T) {
-	for text := range textsOf([]byte("\"\\un0c\x1f\xc3\xa9"), 5) {
+	for text := range texts.Short("\"\\un0c\x1f\xc3\xa9", 5) {
 		begins := false
 		for _, end := range []string{"", `"`, `n"`, `0"`, `00"`, `000"`, `0000"`} {
 			begins = begins || json.Valid([]byte(`"`+text+end))
@@ -339,24 +339,5 @@ func TestDecodeBegins(t *testing.T) {
 		if utf8.ValidString(text) && goesOn != begins {
 			t.Fatalf("%q: %d %v, begins %v", text, n, e, begins)
 		}
-	}
-}
-
-// textsOf visits the texts of at most length bytes of an alphabet.
-func textsOf(alphabet []byte, length int) iter.Seq[string] {
-	return func(visit func(string) bool) {
-		var extend func(text string) bool
-		extend = func(text string) bool {
-			if !visit(text) {
-				return false
-			}
-			for _, b := range alphabet {
-				if len(text) < length && !extend(text+string([]byte{b})) {
-					return false
-				}
-			}
-			return true
-		}
-		extend("")
 	}
 }

@@ -7,6 +7,7 @@ import (
 
 	"hexapla/api"
 	"hexapla/src"
+	"hexapla/texts"
 )
 
 func TestPlace(t *testing.T) {
@@ -50,7 +51,7 @@ func TestPlaceRefused(t *testing.T) {
 // TestPlaceAll holds the places in short texts against a count of the whole
 // line before the offset.
 func TestPlaceAll(t *testing.T) {
-	for text := range textsOf([]byte{'\n', '\r', 'a', 0x7F, 0x80, 0xBF, 0xC0, 0xFF}, 4) {
+	for text := range texts.Short("\n\ra\x7f\x80\xbf\xc0\xff", 4) {
 		for off := range len(text) + 1 {
 			before := text[:off]
 			wantLine := strings.Count(before, "\n") + 1

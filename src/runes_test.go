@@ -1,13 +1,13 @@
 package src_test
 
 import (
-	"iter"
 	"math"
 	"slices"
 	"testing"
 	"unicode/utf8"
 
 	"hexapla/src"
+	"hexapla/texts"
 )
 
 func TestRunes(t *testing.T) {
@@ -106,7 +106,7 @@ func TestRunesPut(t *testing.T) {
 		0, 'a', 0x7F, 0x80, 0x8F, 0x90, 0x9F, 0xA0, 0xBF, 0xC0, 0xC1, 0xC2, 0xDF,
 		0xE0, 0xE1, 0xEC, 0xED, 0xEE, 0xEF, 0xF0, 0xF1, 0xF3, 0xF4, 0xF5, 0xFF,
 	}
-	for text := range textsOf(bytes, 4) {
+	for text := range texts.Short(string(bytes), 4) {
 		list, ok := src.Runes(text)
 		if ok != utf8.ValidString(text) {
 			t.Fatalf("Runes(% x): %v", text, ok)
@@ -125,24 +125,5 @@ func TestRunesPut(t *testing.T) {
 		if back != text {
 			t.Fatalf("% x comes back as % x", text, back)
 		}
-	}
-}
-
-// textsOf visits the texts of at most length bytes of an alphabet.
-func textsOf(alphabet []byte, length int) iter.Seq[string] {
-	return func(visit func(string) bool) {
-		var extend func(text string) bool
-		extend = func(text string) bool {
-			if !visit(text) {
-				return false
-			}
-			for _, b := range alphabet {
-				if len(text) < length && !extend(text+string([]byte{b})) {
-					return false
-				}
-			}
-			return true
-		}
-		extend("")
 	}
 }

@@ -1,0 +1,33 @@
+package texts_test
+
+import (
+	"slices"
+	"testing"
+
+	"hexapla/texts"
+)
+
+func TestShort(t *testing.T) {
+	for _, l := range []struct {
+		alphabet string
+		length   int
+		want     []string
+	}{
+		{"ab", 2, []string{"", "a", "aa", "ab", "b", "ba", "bb"}}, {"\xff", 3, []string{"", "\xff", "\xff\xff", "\xff\xff\xff"}},
+		{"ab", 0, []string{""}}, {"", 3, []string{""}},
+	} {
+		if got := slices.Collect(texts.Short(l.alphabet, l.length)); !slices.Equal(got, l.want) {
+			t.Errorf("%q %d: %q", l.alphabet, l.length, got)
+		}
+	}
+	n := 0
+	for range texts.Short("ab", 3) { // a visit may be the last one
+		n++
+		if n == 4 {
+			break
+		}
+	}
+	if n != 4 {
+		t.Error(n)
+	}
+}
