@@ -6,6 +6,7 @@ import (
 	"testing"
 
 	"hexapla/api"
+	"hexapla/checks"
 )
 
 // scalars are values that are no lists or maps, and their events.
@@ -24,24 +25,24 @@ func values() map[string]string {
 
 func TestValues(t *testing.T) {
 	for text, want := range values() {
-		checkOK(t, text, want)
-		checkOK(t, "["+text+"]", "[ "+want+" ]")
-		checkOK(t, "["+text+","+text+"]", "[ "+want+" "+want+" ]")
-		checkOK(t, `{"a":`+text+"}", `{ "a": `+want+" }")
-		checkOK(t, `{"a":`+text+`,"b":`+text+"}", `{ "a": `+want+` "b": `+want+" }")
+		syntax.CheckOK(t, text, want)
+		syntax.CheckOK(t, "["+text+"]", "[ "+want+" ]")
+		syntax.CheckOK(t, "["+text+","+text+"]", "[ "+want+" "+want+" ]")
+		syntax.CheckOK(t, `{"a":`+text+"}", `{ "a": `+want+" }")
+		syntax.CheckOK(t, `{"a":`+text+`,"b":`+text+"}", `{ "a": `+want+` "b": `+want+" }")
 	}
 }
 
 // TestDocument holds the examples of the document.
 func TestDocument(t *testing.T) {
-	checkOK(t, `[1, "a"]`, `[ 1 "a" ]`)
-	checkOK(t, `{"a":[1,"x"]}`, `{ "a": [ 1 "x" ] }`)
-	check(t, `{"a":1,"a"`, `{ "a": 1`, api.ErrTwice, 9)
-	check(t, "12x", "12", api.ErrSyntax, 2)
-	check(t, "tru", "", api.ErrSyntax, 3)
-	check(t, "", "", api.ErrSyntax, 0)
-	check(t, "1e1000 ", "", api.ErrNumber, 6)
-	check(t, "[1,", "[ 1", api.ErrSyntax, 3)
+	syntax.CheckOK(t, `[1, "a"]`, `[ 1 "a" ]`)
+	syntax.CheckOK(t, `{"a":[1,"x"]}`, `{ "a": [ 1 "x" ] }`)
+	syntax.Check(t, `{"a":1,"a"`, `{ "a": 1`, api.ErrTwice, 9)
+	syntax.Check(t, "12x", "12", api.ErrSyntax, 2)
+	syntax.Check(t, "tru", "", api.ErrSyntax, 3)
+	syntax.Check(t, "", "", api.ErrSyntax, 0)
+	syntax.Check(t, "1e1000 ", "", api.ErrNumber, 6)
+	syntax.Check(t, "[1,", "[ 1", api.ErrSyntax, 3)
 }
 
 // blanks are the four, each alone and in rows.
@@ -51,18 +52,18 @@ func TestBlanks(t *testing.T) {
 	for _, blank := range blanks {
 		for text, want := range values() {
 			for _, around := range []string{blank + text, text + blank, blank + text + blank} {
-				checkOK(t, around, want)
+				syntax.CheckOK(t, around, want)
 			}
 		}
 		for _, tokens := range [][]string{
 			{"[", "]"}, {"{", "}"}, {"[", "1", ",", "true", ",", `"a"`, ",", "[", "]", ",", "null", "]"},
 			{"{", `"a"`, ":", "-1", ",", `"b"`, ":", "false", ",", `"c"`, ":", "{", "}", "}"},
 		} {
-			l, e, _ := decode(t, strings.Join(tokens, ""))
-			if e != api.OK {
-				t.Error(tokens, e)
+			r := syntax.Read(t, strings.Join(tokens, ""))
+			if r.Err != api.OK {
+				t.Error(tokens, r.Err)
 			}
-			checkOK(t, blank+strings.Join(tokens, blank)+blank, written(l))
+			syntax.CheckOK(t, blank+strings.Join(tokens, blank)+blank, checks.Written(r.Events))
 		}
 	}
 }
@@ -72,8 +73,8 @@ func TestNoBlanks(t *testing.T) {
 	for b := range 256 {
 		text := string([]byte{byte(b)})
 		if strings.Contains(" \t\n\r", text) {
-			checkOpen(t, text, "")
-			checkOK(t, text+"{"+text+"}"+text, "{ }")
+			syntax.CheckOpen(t, text, "")
+			syntax.CheckOK(t, text+"{"+text+"}"+text, "{ }")
 			continue
 		}
 		e := api.ErrSyntax
@@ -81,25 +82,25 @@ func TestNoBlanks(t *testing.T) {
 			e = api.ErrUTF
 		}
 		for _, before := range []string{"null", "[]", `"a"`, `{"a":1} `, "1 "} {
-			l, _, _ := decode(t, before)
-			checkLast(t, before+text, written(l), e)
+			r := syntax.Read(t, before)
+			syntax.CheckLast(t, before+text, checks.Written(r.Events), e)
 		}
 		if b != ':' {
-			checkLast(t, `{"a"`+text, `{ "a":`, e)
+			syntax.CheckLast(t, `{"a"`+text, `{ "a":`, e)
 		}
 	}
 }
 
 func TestBlanksAlone(t *testing.T) {
-	checkOpen(t, "", "")
+	syntax.CheckOpen(t, "", "")
 	for _, blank := range blanks {
-		checkOpen(t, blank, "")
-		checkOpen(t, strings.Repeat(blank, 40), "")
-		check(t, blank+"]", "", api.ErrSyntax, len(blank))
+		syntax.CheckOpen(t, blank, "")
+		syntax.CheckOpen(t, strings.Repeat(blank, 40), "")
+		syntax.Check(t, blank+"]", "", api.ErrSyntax, len(blank))
 	}
 	for _, no := range []string{"\v", "\f", "\x00", "\x1f", "\u00a0", "\u0085", "\u2028", "\ufeff", ";", "#", "/"} {
-		check(t, no+"1", "", api.ErrSyntax, 0)
-		check(t, "[ "+no+"1]", "[", api.ErrSyntax, 2)
+		syntax.Check(t, no+"1", "", api.ErrSyntax, 0)
+		syntax.Check(t, "[ "+no+"1]", "[", api.ErrSyntax, 2)
 	}
 }
 
@@ -107,28 +108,28 @@ func TestBlanksAlone(t *testing.T) {
 func TestWords(t *testing.T) {
 	for _, word := range []string{"null", "true", "false"} {
 		for n := 1; n < len(word); n++ {
-			checkOpen(t, word[:n], "")
-			checkOpen(t, "["+word[:n], "[")
-			check(t, "["+word[:n]+"]", "[", api.ErrSyntax, n+1)
+			syntax.CheckOpen(t, word[:n], "")
+			syntax.CheckOpen(t, "["+word[:n], "[")
+			syntax.Check(t, "["+word[:n]+"]", "[", api.ErrSyntax, n+1)
 			for b := range 0x80 {
 				if byte(b) != word[n] {
-					check(t, word[:n]+string(rune(b)), "", api.ErrSyntax, n)
+					syntax.Check(t, word[:n]+string(rune(b)), "", api.ErrSyntax, n)
 				}
 			}
-			check(t, word[:n]+"\xff", "", api.ErrUTF, n)
-			check(t, word[:n]+"\xc3", "", api.ErrSyntax, n)
+			syntax.Check(t, word[:n]+"\xff", "", api.ErrUTF, n)
+			syntax.Check(t, word[:n]+"\xc3", "", api.ErrSyntax, n)
 		}
-		checkLast(t, word+"x", word, api.ErrSyntax)
-		checkLast(t, word+word[:1], word, api.ErrSyntax)
-		check(t, strings.ToUpper(word), "", api.ErrSyntax, 0)
-		check(t, strings.ToUpper(word[:1])+word[1:], "", api.ErrSyntax, 0)
-		check(t, word[:1]+strings.ToUpper(word[1:]), "", api.ErrSyntax, 1)
-		checkLast(t, "["+word+" "+word[:1], "[ "+word, api.ErrSyntax)
+		syntax.CheckLast(t, word+"x", word, api.ErrSyntax)
+		syntax.CheckLast(t, word+word[:1], word, api.ErrSyntax)
+		syntax.Check(t, strings.ToUpper(word), "", api.ErrSyntax, 0)
+		syntax.Check(t, strings.ToUpper(word[:1])+word[1:], "", api.ErrSyntax, 0)
+		syntax.Check(t, word[:1]+strings.ToUpper(word[1:]), "", api.ErrSyntax, 1)
+		syntax.CheckLast(t, "["+word+" "+word[:1], "[ "+word, api.ErrSyntax)
 	}
-	check(t, "nil", "", api.ErrSyntax, 1)
-	check(t, "truefalse", "true", api.ErrSyntax, 4)
-	check(t, "{null", "{", api.ErrSyntax, 1)
-	check(t, "{true:1}", "{", api.ErrSyntax, 1)
+	syntax.Check(t, "nil", "", api.ErrSyntax, 1)
+	syntax.Check(t, "truefalse", "true", api.ErrSyntax, 4)
+	syntax.Check(t, "{null", "{", api.ErrSyntax, 1)
+	syntax.Check(t, "{true:1}", "{", api.ErrSyntax, 1)
 }
 
 // TestFirstByte asks each byte ahead of a value.
@@ -138,86 +139,86 @@ func TestFirstByte(t *testing.T) {
 		switch {
 		case strings.Contains(" \t\n\r-0123456789ntf\"[{", text):
 			for _, before := range []string{"", "[", "[1,", `{"a":`, " "} {
-				if _, e, at := decode(t, before+text); e != api.OK && at != len(before)+1 {
-					t.Errorf("%q: %v at %d", before+text, e, at)
+				if r := syntax.Read(t, before+text); r.Err != api.OK && r.At != len(before)+1 {
+					t.Errorf("%q: %v at %d", before+text, r.Err, r.At)
 				}
 			}
 		default:
-			checkLast(t, text, "", api.ErrSyntax)
-			checkLast(t, "[1,"+text, "[ 1", api.ErrSyntax)
-			checkLast(t, `{"a":`+text, `{ "a":`, api.ErrSyntax)
+			syntax.CheckLast(t, text, "", api.ErrSyntax)
+			syntax.CheckLast(t, "[1,"+text, "[ 1", api.ErrSyntax)
+			syntax.CheckLast(t, `{"a":`+text, `{ "a":`, api.ErrSyntax)
 			if text != "]" {
-				checkLast(t, "["+text, "[", api.ErrSyntax)
+				syntax.CheckLast(t, "["+text, "[", api.ErrSyntax)
 			}
 		}
 	}
 }
 
 func TestLists(t *testing.T) {
-	checkOK(t, "[]", "[ ]")
-	checkOK(t, "[ ]", "[ ]")
-	checkOK(t, "[[],[[]],[]]", "[ [ ] [ [ ] ] [ ] ]")
-	checkOK(t, "[1,2,3,4,5,6,7,8,9,10,11,12]", "[ 1 2 3 4 5 6 7 8 9 1e1 11 12 ]")
-	checkOK(t, `["a","a","","a"]`, `[ "a" "a" "" "a" ]`)
-	checkOK(t, "["+strings.Repeat("null,", 500)+"null]", "["+strings.Repeat(" null", 501)+" ]")
-	checkOK(t, "[{},{},[{}]]", "[ { } { } [ { } ] ]")
-	checkLast(t, "[1,]", "[ 1", api.ErrSyntax)
-	checkLast(t, "[1, ]", "[ 1", api.ErrSyntax)
-	checkLast(t, "[true,,", "[ true", api.ErrSyntax)
-	checkLast(t, "[,", "[", api.ErrSyntax)
-	checkLast(t, "[ ,", "[", api.ErrSyntax)
-	checkLast(t, ",", "", api.ErrSyntax)
-	checkLast(t, "]", "", api.ErrSyntax)
-	checkLast(t, "[[],]", "[ [ ]", api.ErrSyntax)
-	checkLast(t, "[1 2", "[ 1", api.ErrSyntax)
-	checkLast(t, "[[][", "[ [ ]", api.ErrSyntax)
-	checkLast(t, `["a""`, `[ "a"`, api.ErrSyntax)
-	checkLast(t, `["a":`, `[ "a"`, api.ErrSyntax)
-	checkLast(t, "[:", "[", api.ErrSyntax)
+	syntax.CheckOK(t, "[]", "[ ]")
+	syntax.CheckOK(t, "[ ]", "[ ]")
+	syntax.CheckOK(t, "[[],[[]],[]]", "[ [ ] [ [ ] ] [ ] ]")
+	syntax.CheckOK(t, "[1,2,3,4,5,6,7,8,9,10,11,12]", "[ 1 2 3 4 5 6 7 8 9 1e1 11 12 ]")
+	syntax.CheckOK(t, `["a","a","","a"]`, `[ "a" "a" "" "a" ]`)
+	syntax.CheckOK(t, "["+strings.Repeat("null,", 500)+"null]", "["+strings.Repeat(" null", 501)+" ]")
+	syntax.CheckOK(t, "[{},{},[{}]]", "[ { } { } [ { } ] ]")
+	syntax.CheckLast(t, "[1,]", "[ 1", api.ErrSyntax)
+	syntax.CheckLast(t, "[1, ]", "[ 1", api.ErrSyntax)
+	syntax.CheckLast(t, "[true,,", "[ true", api.ErrSyntax)
+	syntax.CheckLast(t, "[,", "[", api.ErrSyntax)
+	syntax.CheckLast(t, "[ ,", "[", api.ErrSyntax)
+	syntax.CheckLast(t, ",", "", api.ErrSyntax)
+	syntax.CheckLast(t, "]", "", api.ErrSyntax)
+	syntax.CheckLast(t, "[[],]", "[ [ ]", api.ErrSyntax)
+	syntax.CheckLast(t, "[1 2", "[ 1", api.ErrSyntax)
+	syntax.CheckLast(t, "[[][", "[ [ ]", api.ErrSyntax)
+	syntax.CheckLast(t, `["a""`, `[ "a"`, api.ErrSyntax)
+	syntax.CheckLast(t, `["a":`, `[ "a"`, api.ErrSyntax)
+	syntax.CheckLast(t, "[:", "[", api.ErrSyntax)
 	for _, text := range []string{"[", "[ ", "[1,", "[1, ", "[[", "[1 "} {
-		checkOpen(t, text, strings.TrimSpace(strings.NewReplacer("[", "[ ", ",", "").Replace(text)))
+		syntax.CheckOpen(t, text, strings.TrimSpace(strings.NewReplacer("[", "[ ", ",", "").Replace(text)))
 	}
-	checkOpen(t, "[[]", "[ [ ]")
-	checkOpen(t, "[[],", "[ [ ]")
-	checkOpen(t, "[1", "[ 1") // the end ends the number
-	checkOpen(t, `["a`, "[")
+	syntax.CheckOpen(t, "[[]", "[ [ ]")
+	syntax.CheckOpen(t, "[[],", "[ [ ]")
+	syntax.CheckOpen(t, "[1", "[ 1") // the end ends the number
+	syntax.CheckOpen(t, `["a`, "[")
 }
 
 func TestMaps(t *testing.T) {
-	checkOK(t, "{}", "{ }")
-	checkOK(t, "{\n}", "{ }")
-	checkOK(t, `{"":""}`, `{ "": "" }`)
-	checkOK(t, `{"a":{"a":{"a":1},"b":{}},"b":2}`, `{ "a": { "a": { "a": 1 } "b": { } } "b": 2 }`)
-	checkOK(t, `{"b":1,"a":2,"B":3,"A":4}`, `{ "b": 1 "a": 2 "B": 3 "A": 4 }`) // in their order
-	checkOK(t, `{"\u0061\n":1}`, `{ "a\n": 1 }`)
-	checkOK(t, `{"é":"é"}`, `{ "é": "é" }`)
-	checkLast(t, `{"a":1,}`, `{ "a": 1`, api.ErrSyntax)
-	checkLast(t, `{"a":1, }`, `{ "a": 1`, api.ErrSyntax)
-	checkLast(t, `{"a":{},,`, `{ "a": { }`, api.ErrSyntax)
-	checkLast(t, "{,", "{", api.ErrSyntax)
-	checkLast(t, "{:", "{", api.ErrSyntax)
-	checkLast(t, "{1", "{", api.ErrSyntax)
-	checkLast(t, "{[", "{", api.ErrSyntax)
-	checkLast(t, "{{", "{", api.ErrSyntax)
-	checkLast(t, "}", "", api.ErrSyntax)
-	checkLast(t, ":", "", api.ErrSyntax)
-	checkLast(t, `{"a"}`, `{ "a":`, api.ErrSyntax)
-	checkLast(t, `{"a",`, `{ "a":`, api.ErrSyntax)
-	checkLast(t, `{"a" 1`, `{ "a":`, api.ErrSyntax)
-	checkLast(t, `{"a""`, `{ "a":`, api.ErrSyntax)
-	checkLast(t, `{"a":}`, `{ "a":`, api.ErrSyntax)
-	checkLast(t, `{"a":,`, `{ "a":`, api.ErrSyntax)
-	checkLast(t, `{"a"::`, `{ "a":`, api.ErrSyntax)
-	checkLast(t, `{"a":1:`, `{ "a": 1`, api.ErrSyntax)
-	checkLast(t, `{"a":"b":`, `{ "a": "b"`, api.ErrSyntax)
-	checkLast(t, `{"a":1 "`, `{ "a": 1`, api.ErrSyntax)
-	checkLast(t, `{"a":1,2`, `{ "a": 1`, api.ErrSyntax)
-	checkLast(t, `{"a":1,{`, `{ "a": 1`, api.ErrSyntax)
+	syntax.CheckOK(t, "{}", "{ }")
+	syntax.CheckOK(t, "{\n}", "{ }")
+	syntax.CheckOK(t, `{"":""}`, `{ "": "" }`)
+	syntax.CheckOK(t, `{"a":{"a":{"a":1},"b":{}},"b":2}`, `{ "a": { "a": { "a": 1 } "b": { } } "b": 2 }`)
+	syntax.CheckOK(t, `{"b":1,"a":2,"B":3,"A":4}`, `{ "b": 1 "a": 2 "B": 3 "A": 4 }`) // in their order
+	syntax.CheckOK(t, `{"\u0061\n":1}`, `{ "a\n": 1 }`)
+	syntax.CheckOK(t, `{"é":"é"}`, `{ "é": "é" }`)
+	syntax.CheckLast(t, `{"a":1,}`, `{ "a": 1`, api.ErrSyntax)
+	syntax.CheckLast(t, `{"a":1, }`, `{ "a": 1`, api.ErrSyntax)
+	syntax.CheckLast(t, `{"a":{},,`, `{ "a": { }`, api.ErrSyntax)
+	syntax.CheckLast(t, "{,", "{", api.ErrSyntax)
+	syntax.CheckLast(t, "{:", "{", api.ErrSyntax)
+	syntax.CheckLast(t, "{1", "{", api.ErrSyntax)
+	syntax.CheckLast(t, "{[", "{", api.ErrSyntax)
+	syntax.CheckLast(t, "{{", "{", api.ErrSyntax)
+	syntax.CheckLast(t, "}", "", api.ErrSyntax)
+	syntax.CheckLast(t, ":", "", api.ErrSyntax)
+	syntax.CheckLast(t, `{"a"}`, `{ "a":`, api.ErrSyntax)
+	syntax.CheckLast(t, `{"a",`, `{ "a":`, api.ErrSyntax)
+	syntax.CheckLast(t, `{"a" 1`, `{ "a":`, api.ErrSyntax)
+	syntax.CheckLast(t, `{"a""`, `{ "a":`, api.ErrSyntax)
+	syntax.CheckLast(t, `{"a":}`, `{ "a":`, api.ErrSyntax)
+	syntax.CheckLast(t, `{"a":,`, `{ "a":`, api.ErrSyntax)
+	syntax.CheckLast(t, `{"a"::`, `{ "a":`, api.ErrSyntax)
+	syntax.CheckLast(t, `{"a":1:`, `{ "a": 1`, api.ErrSyntax)
+	syntax.CheckLast(t, `{"a":"b":`, `{ "a": "b"`, api.ErrSyntax)
+	syntax.CheckLast(t, `{"a":1 "`, `{ "a": 1`, api.ErrSyntax)
+	syntax.CheckLast(t, `{"a":1,2`, `{ "a": 1`, api.ErrSyntax)
+	syntax.CheckLast(t, `{"a":1,{`, `{ "a": 1`, api.ErrSyntax)
 	for text, want := range map[string]string{
 		"{": "{", "{ ": "{", `{"`: "{", `{"a`: "{", `{"a"`: `{ "a":`, `{"a" `: `{ "a":`, `{"a":`: `{ "a":`, `{"a": `: `{ "a":`,
 		`{"a":1`: `{ "a": 1`, `{"a":1,`: `{ "a": 1`, `{"a":1,"b`: `{ "a": 1`, `{"a":{}`: `{ "a": { }`, `{"a":"b`: `{ "a":`,
 	} {
-		checkOpen(t, text, want)
+		syntax.CheckOpen(t, text, want)
 	}
 }
 
@@ -229,7 +230,7 @@ func TestOtherBracket(t *testing.T) {
 		`{"a":"b"]`: `{ "a": "b"`, `{"a":{}]`: `{ "a": { }`, `{"a":[]]`: `{ "a": [ ]`, `[{"a":[}`: `[ { "a": [`, `[{"a":1]`: `[ { "a": 1`,
 		`{"a":[{}}`: `{ "a": [ { }`,
 	} {
-		checkLast(t, text, want, api.ErrSyntax)
+		syntax.CheckLast(t, text, want, api.ErrSyntax)
 	}
 }
 
@@ -237,13 +238,13 @@ func TestOtherBracket(t *testing.T) {
 func TestBehind(t *testing.T) {
 	for text, want := range values() {
 		for _, more := range []string{"]", "}", ",", ":", "x", "null", "true", `"a"`, "[", "{", "[]", "é"} {
-			check(t, text+more, want, api.ErrSyntax, len(text))
+			syntax.Check(t, text+more, want, api.ErrSyntax, len(text))
 		}
 		for _, more := range []string{"1", "-", "0", "]", ",", "n", `"`, "[", "{"} {
-			check(t, text+" "+more, want, api.ErrSyntax, len(text)+1)
-			check(t, text+"\r\n\t"+more, want, api.ErrSyntax, len(text)+3)
+			syntax.Check(t, text+" "+more, want, api.ErrSyntax, len(text)+1)
+			syntax.Check(t, text+"\r\n\t"+more, want, api.ErrSyntax, len(text)+3)
 		}
-		checkOK(t, text+strings.Repeat(" ", 60), want)
+		syntax.CheckOK(t, text+strings.Repeat(" ", 60), want)
 	}
 }
 
@@ -270,7 +271,7 @@ func TestDepth(t *testing.T) {
 	for n := 1; n <= 6; n++ {
 		for kinds := range 1 << n {
 			text, want := nested(n, kinds)
-			checkOK(t, text, want)
+			syntax.CheckOK(t, text, want)
 		}
 	}
 	for kinds := range 1 << 7 {
@@ -281,22 +282,22 @@ func TestDepth(t *testing.T) {
 			t.Fatal(text)
 		}
 		want = want[:strings.LastIndexAny(want, "[{")]
-		check(t, text, strings.TrimSpace(want), api.ErrDepth, at)
-		check(t, text[:at+1], strings.TrimSpace(want), api.ErrDepth, at)
+		syntax.Check(t, text, strings.TrimSpace(want), api.ErrDepth, at)
+		syntax.Check(t, text[:at+1], strings.TrimSpace(want), api.ErrDepth, at)
 	}
 }
 
 // TestDepthAgain holds that what was closed does not count.
 func TestDepthAgain(t *testing.T) {
 	six := "[[[[[]]]]]"
-	l, e, _ := decode(t, "["+strings.Repeat(six+",", 20)+six+"]")
-	if e != api.OK || len(l) != 2+21*10 {
-		t.Error(e, len(l))
+	r := syntax.Read(t, "["+strings.Repeat(six+",", 20)+six+"]")
+	if r.Err != api.OK || len(r.Events) != 2+21*10 {
+		t.Error(r.Err, len(r.Events))
 	}
-	checkOK(t, "[[[[[[],[],{},1]]],[]],[[[[{}]]]]]", "[ [ [ [ [ [ ] [ ] { } 1 ] ] ] [ ] ] [ [ [ [ { } ] ] ] ] ]")
-	check(t, "[[[[[[],[],1,[[", "[ [ [ [ [ [ ] [ ] 1 [", api.ErrDepth, 14)
-	check(t, `[[[[[{"a":1,"b":[`, `[ [ [ [ [ { "a": 1 "b":`, api.ErrDepth, 16)
-	check(t, `[[[[[{"a":1,"b":{`, `[ [ [ [ [ { "a": 1 "b":`, api.ErrDepth, 16)
+	syntax.CheckOK(t, "[[[[[[],[],{},1]]],[]],[[[[{}]]]]]", "[ [ [ [ [ [ ] [ ] { } 1 ] ] ] [ ] ] [ [ [ [ { } ] ] ] ] ]")
+	syntax.Check(t, "[[[[[[],[],1,[[", "[ [ [ [ [ [ ] [ ] 1 [", api.ErrDepth, 14)
+	syntax.Check(t, `[[[[[{"a":1,"b":[`, `[ [ [ [ [ { "a": 1 "b":`, api.ErrDepth, 16)
+	syntax.Check(t, `[[[[[{"a":1,"b":{`, `[ [ [ [ [ { "a": 1 "b":`, api.ErrDepth, 16)
 }
 
 // fields returns the text of n fields, k0 and so on, and their events.
@@ -312,40 +313,40 @@ func fields(n int) (string, string) {
 func TestFields(t *testing.T) {
 	for n := 1; n <= 10; n++ {
 		text, want := fields(n)
-		checkOK(t, "{"+text+"}", "{ "+want+" }")
+		syntax.CheckOK(t, "{"+text+"}", "{ "+want+" }")
 		for i := range n { // each of them again: the first, a middle one, the last
-			checkLast(t, "{"+text+`,"k`+strconv.Itoa(i)+`"`, "{ "+want, api.ErrTwice)
+			syntax.CheckLast(t, "{"+text+`,"k`+strconv.Itoa(i)+`"`, "{ "+want, api.ErrTwice)
 		}
-		checkOpen(t, "{"+text+`,"k0`, "{ "+want)
+		syntax.CheckOpen(t, "{"+text+`,"k0`, "{ "+want)
 	}
 	text, want := fields(10)
-	checkLast(t, "{"+text+`,"k10"`, "{ "+want, api.ErrFields)
-	checkLast(t, "{"+text+`,"k"`, "{ "+want, api.ErrFields)
-	checkLast(t, "{"+text+`,""`, "{ "+want, api.ErrFields)
-	checkLast(t, "{"+text+",}", "{ "+want, api.ErrSyntax)
-	checkOpen(t, "{"+text+`,"k10`, "{ "+want)
-	checkOpen(t, "{"+text+",", "{ "+want)
+	syntax.CheckLast(t, "{"+text+`,"k10"`, "{ "+want, api.ErrFields)
+	syntax.CheckLast(t, "{"+text+`,"k"`, "{ "+want, api.ErrFields)
+	syntax.CheckLast(t, "{"+text+`,""`, "{ "+want, api.ErrFields)
+	syntax.CheckLast(t, "{"+text+",}", "{ "+want, api.ErrSyntax)
+	syntax.CheckOpen(t, "{"+text+`,"k10`, "{ "+want)
+	syntax.CheckOpen(t, "{"+text+",", "{ "+want)
 	eleven, _ := fields(11)
-	check(t, "{"+eleven+"}", "{ "+want, api.ErrFields, len(text)+6)
+	syntax.Check(t, "{"+eleven+"}", "{ "+want, api.ErrFields, len(text)+6)
 }
 
 // TestOwnFields holds that each map has its own fields.
 func TestOwnFields(t *testing.T) {
 	text, want := fields(10)
-	checkOK(t, "[{"+text+"},{"+text+"}]", "[ { "+want+" } { "+want+" } ]")
-	checkOK(t, `{"k0":{`+text+`},"k1":{`+text+"}}", `{ "k0": { `+want+` } "k1": { `+want+" } }")
-	check(t, `{"a":{"b":1},"a"`, `{ "a": { "b": 1 }`, api.ErrTwice, 15)
-	check(t, `{"a":{"b":1,"b"`, `{ "a": { "b": 1`, api.ErrTwice, 14)
-	check(t, `{"a":{"a":1,"b":{"a":2,"b":3}},"b":4,"a"`, `{ "a": { "a": 1 "b": { "a": 2 "b": 3 } } "b": 4`, api.ErrTwice, 39)
+	syntax.CheckOK(t, "[{"+text+"},{"+text+"}]", "[ { "+want+" } { "+want+" } ]")
+	syntax.CheckOK(t, `{"k0":{`+text+`},"k1":{`+text+"}}", `{ "k0": { `+want+` } "k1": { `+want+" } }")
+	syntax.Check(t, `{"a":{"b":1},"a"`, `{ "a": { "b": 1 }`, api.ErrTwice, 15)
+	syntax.Check(t, `{"a":{"b":1,"b"`, `{ "a": { "b": 1`, api.ErrTwice, 14)
+	syntax.Check(t, `{"a":{"a":1,"b":{"a":2,"b":3}},"b":4,"a"`, `{ "a": { "a": 1 "b": { "a": 2 "b": 3 } } "b": 4`, api.ErrTwice, 39)
 }
 
 // TestSameKeys holds which keys are the same: those with the same contents.
 func TestSameKeys(t *testing.T) {
-	check(t, `{"":1,""`, `{ "": 1`, api.ErrTwice, 7)
-	check(t, `{"a":1,"\u0061"`, `{ "a": 1`, api.ErrTwice, 14)
-	check(t, `{"\n":1,"\u000A"`, `{ "\n": 1`, api.ErrTwice, 15)
-	check(t, `{"é":1,"\u00e9"`, `{ "é": 1`, api.ErrTwice, 15)
-	checkOK(t, `{"a":1,"A":2,"a ":3," a":4,"":5,"aa":6,"\\u0061":7}`, `{ "a": 1 "A": 2 "a ": 3 " a": 4 "": 5 "aa": 6 "\\u0061": 7 }`)
-	checkOK(t, `{"a":"a","b":"a"}`, `{ "a": "a" "b": "a" }`) // a value is no key
-	checkOK(t, `{"a":["a","a"]}`, `{ "a": [ "a" "a" ] }`)
+	syntax.Check(t, `{"":1,""`, `{ "": 1`, api.ErrTwice, 7)
+	syntax.Check(t, `{"a":1,"\u0061"`, `{ "a": 1`, api.ErrTwice, 14)
+	syntax.Check(t, `{"\n":1,"\u000A"`, `{ "\n": 1`, api.ErrTwice, 15)
+	syntax.Check(t, `{"é":1,"\u00e9"`, `{ "é": 1`, api.ErrTwice, 15)
+	syntax.CheckOK(t, `{"a":1,"A":2,"a ":3," a":4,"":5,"aa":6,"\\u0061":7}`, `{ "a": 1 "A": 2 "a ": 3 " a": 4 "": 5 "aa": 6 "\\u0061": 7 }`)
+	syntax.CheckOK(t, `{"a":"a","b":"a"}`, `{ "a": "a" "b": "a" }`) // a value is no key
+	syntax.CheckOK(t, `{"a":["a","a"]}`, `{ "a": [ "a" "a" ] }`)
 }

@@ -3,273 +3,107 @@ package brace_test
 import (
 	"encoding/json"
 	"math/rand"
-	"regexp"
 	"slices"
 	"strconv"
 	"strings"
 	"testing"
-	"unicode/utf8"
 
 	"hexapla/api"
-	"hexapla/num"
-	"hexapla/quote"
+	"hexapla/checks"
 	"hexapla/texts"
 )
 
-// The numbers of any length, and what they begin with.
-var (
-	isNumber = regexp.MustCompile(`^-?(0|[1-9][0-9]*)(\.[0-9]+)?([eE][+-]?[0-9]+)?$`)
-	begins   = regexp.MustCompile(`^(-?|-?(0|[1-9][0-9]*)(\.[0-9]*)?|-?(0|[1-9][0-9]*)(\.[0-9]+)?[eE][+-]?[0-9]*)$`)
-)
+// reader is a model of the syntax.
+type reader struct{ *checks.Reader }
 
-// reader is a model: it has the whole text ahead of it, and reads it by the
-// chapter's sentences, each of which is a method.
-type reader struct {
-	text  string
-	at    int
-	told  []api.Event
-	where []int      // each of them is reported
-	keys  [][]string // of what is open, a list too
-}
+// model reads a whole text.
+func model(r *checks.Reader) { reader{r}.item() }
 
-// failure is what a reader stops with.
-type failure struct{ e api.Errno }
-
-func (r *reader) fail(e api.Errno) { panic(failure{e}) }
-
-// tell reports an event at the byte at.
-func (r *reader) tell(kind int, text string) {
-	r.told, r.where = append(r.told, api.Event{Kind: kind, Text: text}), append(r.where, r.at)
-}
-
-// next returns the byte at, or 0 at the end.
-func (r *reader) next() byte {
-	if r.at < len(r.text) {
-		return r.text[r.at]
-	}
-	return 0
-}
-
-// expect goes over a byte.
-func (r *reader) expect(b byte) {
-	if r.next() != b {
-		r.fail(api.ErrSyntax)
-	}
-	r.at++
-}
-
-func (r *reader) blanks() {
-	for r.at < len(r.text) && strings.Contains(" \t\n\r", r.text[r.at:r.at+1]) {
-		r.at++
+func (r reader) blanks() {
+	for r.At < len(r.Text) && strings.Contains(" \t\n\r", r.Text[r.At:r.At+1]) {
+		r.At++
 	}
 }
 
-func (r *reader) word(word string, kind int, text string) {
-	for i := range len(word) {
-		if r.next() != word[i] {
-			r.fail(api.ErrSyntax)
-		}
-		if i == len(word)-1 {
-			r.tell(kind, text)
-		}
-		r.at++
+func (r reader) word(word string, x api.Event) {
+	for i := range len(word) - 1 {
+		r.Expect(word[i])
 	}
+	if r.Next() != word[len(word)-1] {
+		r.Fail(api.ErrSyntax)
+	}
+	r.Last(x)
 }
 
-func (r *reader) number() {
-	first := r.at
-	for r.at < len(r.text) && begins.MatchString(r.text[first:r.at+1]) {
-		if r.at-first == 30 {
-			r.fail(api.ErrToken)
-		}
-		r.at++
-	}
-	if !isNumber.MatchString(r.text[first:r.at]) {
-		r.fail(api.ErrSyntax)
-	}
-	form, e := num.Read(r.text[first:r.at])
-	if e != api.OK {
-		r.fail(api.ErrNumber)
-	}
-	r.tell(api.Number, form)
-}
-
-// quoted reads a quoted string up to its last byte.
-func (r *reader) quoted() string {
-	q := quote.New()
-	for r.at++; r.at < len(r.text); r.at++ {
-		closed, e := q.Step(r.text[r.at])
-		if e != api.OK {
-			r.fail(e)
-		}
-		if closed {
-			return q.Text()
-		}
-	}
-	r.fail(api.ErrSyntax)
-	return ""
-}
-
-// begin reports a bracket that opens, and end one that closes.
-func (r *reader) begin(kind int) {
-	if len(r.keys) == 6 {
-		r.fail(api.ErrDepth)
-	}
-	r.keys = append(r.keys, nil)
-	r.tell(kind, "")
-	r.at++
+func (r reader) list() {
+	r.Open()
+	r.Last(api.Event{Kind: api.List})
 	r.blanks()
-}
-
-func (r *reader) end(kind int) {
-	r.tell(kind, "")
-	r.at++
-	r.keys = r.keys[:len(r.keys)-1]
-}
-
-func (r *reader) list() {
-	r.begin(api.List)
-	if r.next() != ']' {
+	if r.Next() != ']' {
 		r.item()
-		for r.next() == ',' {
-			r.at++
+		for r.Next() == ',' {
+			r.At++
 			r.item()
 		}
 	}
-	if r.next() != ']' {
-		r.fail(api.ErrSyntax)
+	if r.Next() != ']' {
+		r.Fail(api.ErrSyntax)
 	}
-	r.end(api.EndList)
+	r.Last(api.Event{Kind: api.EndList})
+	r.Shut()
 }
 
-func (r *reader) item() {
+func (r reader) item() {
 	r.blanks()
 	r.value()
 	r.blanks()
 }
 
-func (r *reader) object() {
-	r.begin(api.Map)
-	if r.next() != '}' {
+func (r reader) object() {
+	r.Open()
+	r.Last(api.Event{Kind: api.Map})
+	r.blanks()
+	if r.Next() != '}' {
 		r.field()
-		for r.next() == ',' {
-			r.at++
+		for r.Next() == ',' {
+			r.At++
 			r.field()
 		}
 	}
-	if r.next() != '}' {
-		r.fail(api.ErrSyntax)
+	if r.Next() != '}' {
+		r.Fail(api.ErrSyntax)
 	}
-	r.end(api.EndMap)
+	r.Last(api.Event{Kind: api.EndMap})
+	r.Shut()
 }
 
-func (r *reader) field() {
+func (r reader) field() {
 	r.blanks()
-	if r.next() != '"' {
-		r.fail(api.ErrSyntax)
-	}
-	key := r.quoted()
-	keys := &r.keys[len(r.keys)-1]
-	if slices.Contains(*keys, key) {
-		r.fail(api.ErrTwice)
-	}
-	if len(*keys) == 10 {
-		r.fail(api.ErrFields)
-	}
-	*keys = append(*keys, key)
-	r.tell(api.Key, key)
-	r.at++
+	key := r.Quoted()
+	r.Key(key)
+	r.Last(api.Event{Kind: api.Key, Text: key})
 	r.blanks()
-	r.expect(':')
+	r.Expect(':')
 	r.item()
 }
 
-func (r *reader) value() {
-	switch b := r.next(); b {
+func (r reader) value() {
+	switch r.Next() {
 	case 'n':
-		r.word("null", api.Null, "")
+		r.word("null", api.Event{Kind: api.Null})
 	case 't':
-		r.word("true", api.Bool, "true")
+		r.word("true", api.Event{Kind: api.Bool, Text: "true"})
 	case 'f':
-		r.word("false", api.Bool, "false")
+		r.word("false", api.Event{Kind: api.Bool, Text: "false"})
 	case '[':
 		r.list()
 	case '{':
 		r.object()
 	case '"':
-		contents := r.quoted()
-		r.tell(api.Text, contents)
-		r.at++
+		r.Last(api.Event{Kind: api.Text, Text: r.Quoted()})
 	default:
-		if r.at == len(r.text) || !begins.MatchString(string(rune(b))) {
-			r.fail(api.ErrSyntax)
-		}
-		r.number()
+		r.Number()
 	}
-}
-
-// read reads the whole text, and returns its error.
-func (r *reader) read() (e api.Errno) {
-	defer func() {
-		if f, is := recover().(failure); is {
-			e = f.e
-		}
-	}()
-	r.item()
-	if r.at < len(r.text) {
-		r.fail(api.ErrSyntax)
-	}
-	return api.OK
-}
-
-// noCharacter returns where the bytes of a text do not continue those before
-// them, or its length if it ends within a character, and whether one of both is.
-func noCharacter(text string) (int, bool) {
-	whole := 0
-	for whole < len(text) {
-		r, size := utf8.DecodeRuneInString(text[whole:])
-		if r == utf8.RuneError && size == 1 {
-			break
-		}
-		whole += size
-	}
-	at := whole
-	for at < len(text) && startsCharacter(text[whole:at+1]) {
-		at++
-	}
-	return at, whole < len(text)
-}
-
-// startsCharacter reports whether some character begins with these bytes.
-func startsCharacter(bytes string) bool {
-	return slices.ContainsFunc([]string{"", "\x80", "\x80\x80", "\x80\x80\x80", "\xa0\x80", "\x90\x80\x80"}, func(more string) bool {
-		return utf8.ValidString(bytes + more)
-	})
-}
-
-// model returns the events and the end of a text.
-func model(text string) ([]api.Event, api.Errno, int) {
-	r := &reader{text: text}
-	e := r.read()
-	if at, is := noCharacter(text); is && at <= r.at {
-		n := 0
-		for n < len(r.told) && r.where[n] < at {
-			n++
-		}
-		return r.told[:n], api.ErrUTF, at
-	}
-	return r.told, e, r.at
-}
-
-// checkModel holds a text against the model, and returns its error.
-func checkModel(t *testing.T, text string) api.Errno {
-	t.Helper()
-	l, e, at := decode(t, text)
-	want, wantE, wantAt := model(text)
-	if !slices.Equal(l, want) || e != wantE || at != wantAt {
-		t.Fatalf("%q: %s %v %d, not %s %v %d", text, written(l), e, at, written(want), wantE, wantAt)
-	}
-	return e
 }
 
 // TestAllTexts holds all short texts of some bytes against the model.
@@ -278,20 +112,15 @@ func TestAllTexts(t *testing.T) {
 		"[]{},:\"1 ": 6, "[1,0.e-+E]x": 5, "\"\\un0dc8\x1f": 5, "ntruefals[": 5, "1[\"\xc3\xa9\xe2\x82\xff": 5, "-1x\xff,": 6,
 	} {
 		for text := range texts.Short(alphabet, length) {
-			checkModel(t, text)
+			syntax.Against(t, text, model)
 		}
 	}
 }
 
 // TestAllTokens holds all short rows of tokens against the model.
 func TestAllTokens(t *testing.T) {
-	tokens := []string{"[", "]", "{", "}", ",", ":", `"a"`, `"b"`, "1", "null ", "1e1000", "\xff"}
-	for row := range texts.Short("ABCDEFGHIJKL", 5) {
-		var b strings.Builder
-		for i := range len(row) {
-			b.WriteString(tokens[row[i]-'A'])
-		}
-		checkModel(t, b.String())
+	for text := range texts.Rows(5, "[", "]", "{", "}", ",", ":", `"a"`, `"b"`, "1", "null ", "1e1000", "\xff") {
+		syntax.Against(t, text, model)
 	}
 }
 
@@ -325,11 +154,11 @@ func random(r *rand.Rand, b *strings.Builder, depth int) {
 		}
 		b.WriteString("}")
 	case kind == 4:
-		b.WriteString(randomString(r, r.Intn(4)))
+		b.WriteString(texts.RandomQuoted(r.Intn(4), r.Intn))
 	case kind == 5:
 		b.WriteString([]string{"null", "true", "false"}[r.Intn(3)])
 	default:
-		b.WriteString([]string{"0", "-1", "12.50", "1e3", "-0.1E-2", "9e9", strings.Repeat("7", 28+r.Intn(4)), "1e" + strconv.Itoa(995+r.Intn(8))}[r.Intn(8)])
+		b.WriteString(texts.RandomNumber(r.Intn))
 	}
 }
 
@@ -341,32 +170,6 @@ func randomKey(r *rand.Rand, i int) string {
 	return []string{`"k`, `"\u006B`, `"\u006b`}[r.Intn(3)] + strconv.Itoa(i) + `"`
 }
 
-// randomString writes a quoted string of n parts.
-func randomString(r *rand.Rand, n int) string {
-	out := `"`
-	for range n {
-		out += []string{"a", "é", "€", `\n`, `\u00e9`, `\"`, "\U0001f600", strings.Repeat("x", 30+r.Intn(20)), " ", "[,:]"}[r.Intn(10)]
-	}
-	return out + `"`
-}
-
-// spoiled changes a byte of text.
-func spoiled(r *rand.Rand, text string) string {
-	i := r.Intn(len(text) + 1)
-	const bytes = "[]{},:\"\\19.e- \nnut\x00\xff\xc3\x80x"
-	k := r.Intn(len(bytes))
-	more := bytes[k : k+1]
-	switch r.Intn(4) {
-	case 0:
-		return text[:i]
-	case 1:
-		return text[:i] + more + text[i:]
-	case 2:
-		return text[:i] + text[min(i+1, len(text)):]
-	}
-	return text[:i] + more + text[min(i+1, len(text)):]
-}
-
 // TestRandom holds long texts, and what becomes of them by small changes, against
 // the model, also in pieces.
 func TestRandom(t *testing.T) {
@@ -375,11 +178,10 @@ func TestRandom(t *testing.T) {
 	for range 3000 {
 		var b strings.Builder
 		random(r, &b, 3+r.Intn(5))
-		met[checkModel(t, b.String())]++
+		met[syntax.Against(t, b.String(), model)]++
 		for range 8 {
-			text := spoiled(r, b.String())
-			met[checkModel(t, text)]++
-			checkRandomPieces(t, r, text)
+			text := texts.Spoiled(b.String(), "[]{},:\"\\19.e- \nnut\x00\xff\xc3\x80x", r.Intn)
+			met[syntax.AgainstCut(t, text, model, r.Intn)]++
 		}
 	}
 	for _, e := range []api.Errno{
@@ -389,19 +191,6 @@ func TestRandom(t *testing.T) {
 			t.Errorf("%v is met %d times", e, met[e])
 		}
 	}
-}
-
-// checkRandomPieces feeds a text in pieces of any lengths.
-func checkRandomPieces(t *testing.T, r *rand.Rand, text string) {
-	t.Helper()
-	l, e, at := decode(t, text)
-	var pieces []string
-	for rest := text; rest != ""; {
-		n := r.Intn(min(len(rest), 9) + 1)
-		pieces = append(pieces, rest[:n])
-		rest = rest[n:]
-	}
-	checkPieces(t, pieces, r.Intn(2) == 0, l, e, at)
 }
 
 // open returns the brackets that close what a text opens, whether it ends within
@@ -444,19 +233,19 @@ func TestJSON(t *testing.T) {
 	known := map[string]bool{}
 	for alphabet, length := range map[string]int{"[]{}:,\"0 ": 6, "[trufalse,n]": 5, "-0.1eE+, ": 5, "{\"\\n\n\t}0": 6} {
 		for text := range texts.Short(alphabet, length) {
-			_, e, at := decode(t, text)
-			switch e {
+			r := syntax.Read(t, text)
+			switch r.Err {
 			case api.OK:
 				if !json.Valid([]byte(text)) {
 					t.Fatalf("%q: OK", text)
 				}
 			case api.ErrSyntax, api.ErrEscape:
-				first := at == len(text) && !json.Valid([]byte(text)) || at < len(text) && !goesOn(text[:at+1], known)
-				if !first || !goesOn(text[:at], known) {
-					t.Fatalf("%q: %v %d", text, e, at)
+				first := r.At == len(text) && !json.Valid([]byte(text)) || r.At < len(text) && !goesOn(text[:r.At+1], known)
+				if !first || !goesOn(text[:r.At], known) {
+					t.Fatalf("%q: %v %d", text, r.Err, r.At)
 				}
 			default:
-				t.Fatalf("%q: %v %d", text, e, at)
+				t.Fatalf("%q: %v %d", text, r.Err, r.At)
 			}
 		}
 	}

@@ -5,17 +5,26 @@ import "iter"
 
 // Short visits the texts of at most length bytes of an alphabet.
 func Short(alphabet string, length int) iter.Seq[string] {
-	return func(visit func(string) bool) { extend("", alphabet, length, visit) }
+	var bytes []string
+	for i := range len(alphabet) {
+		bytes = append(bytes, alphabet[i:i+1])
+	}
+	return Rows(length, bytes...)
 }
 
-// extend visits text and what at most length bytes more make of it, and reports
+// Rows visits the texts of at most length of some tokens.
+func Rows(length int, tokens ...string) iter.Seq[string] {
+	return func(visit func(string) bool) { extend("", tokens, length, visit) }
+}
+
+// extend visits text and what at most length tokens more make of it, and reports
 // whether the visits are to go on.
-func extend(text, alphabet string, length int, visit func(string) bool) bool {
+func extend(text string, tokens []string, length int, visit func(string) bool) bool {
 	if !visit(text) {
 		return false
 	}
-	for i := 0; length > 0 && i < len(alphabet); i++ {
-		if !extend(text+alphabet[i:i+1], alphabet, length-1, visit) {
+	for i := 0; length > 0 && i < len(tokens); i++ {
+		if !extend(text+tokens[i], tokens, length-1, visit) {
 			return false
 		}
 	}

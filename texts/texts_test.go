@@ -31,3 +31,13 @@ func TestShort(t *testing.T) {
 		t.Error(n)
 	}
 }
+
+func TestRows(t *testing.T) {
+	want := []string{"", "ab", "abab", "abc", "c", "cab", "cc"}
+	if got := slices.Collect(texts.Rows(2, "ab", "c")); !slices.Equal(got, want) {
+		t.Errorf("%q", got)
+	}
+	if got := slices.Collect(texts.Rows(3)); !slices.Equal(got, []string{""}) {
+		t.Errorf("%q", got)
+	}
+}

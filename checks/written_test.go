@@ -1,0 +1,32 @@
+package checks_test
+
+import (
+	"testing"
+
+	"hexapla/api"
+	"hexapla/checks"
+)
+
+func TestWritten(t *testing.T) {
+	for _, l := range []struct {
+		events []api.Event
+		want   string
+	}{
+		{nil, ""},
+		{[]api.Event{{Kind: api.Null}, {Kind: api.Bool, Text: "true"}, {Kind: api.Number, Text: "1e3"}, {Kind: api.Text, Text: "a\"\n"}}, `null true 1e3 "a\"\n"`},
+		{[]api.Event{{Kind: api.List}, {Kind: api.EndList}, {Kind: api.Map}, {Kind: api.Key}, {Kind: api.EndMap}}, `[ ] { "": }`},
+		{[]api.Event{{Kind: api.Elem, Text: "{u}e"}, {Kind: api.Attr, Text: "{u}k", Val: "v w"}, {Kind: api.EndElem}}, `<{u}e @{u}k="v w" >`},
+		{[]api.Event{{}, {Kind: 13}, {Kind: api.Null, Text: "x"}, {Kind: api.Bool, Text: "null"}, {Kind: api.Number, Text: "10"}}, `?0"""" ?13"""" ?1"x""" ?2"null""" ?3"10"""`},
+		{[]api.Event{{Kind: api.Text, Val: "x"}, {Kind: api.Text, Text: "\xff"}, {Kind: api.Key, Text: "a", Val: "x"}}, `?4"""x" ?4"\xff""" ?8"a""x"`},
+		{[]api.Event{{Kind: api.List, Text: "x"}, {Kind: api.EndList, Text: "x"}, {Kind: api.Map, Val: "x"}, {Kind: api.EndMap, Val: "x"}}, `?5"x""" ?6"x""" ?7"""x" ?9"""x"`},
+		{[]api.Event{{Kind: api.Elem, Text: "1"}, {Kind: api.Elem, Text: "e", Val: "x"}, {Kind: api.Attr, Val: "v"}, {Kind: api.EndElem, Text: "x"}}, `?10"1""" ?10"e""x" ?11"""v" ?12"x"""`},
+	} {
+		if got := checks.Written(l.events); got != l.want {
+			t.Errorf("%s, not %s", got, l.want)
+		}
+	}
+	r := checks.Result{Events: []api.Event{{Kind: api.List}}, Err: api.ErrSyntax, At: 1}
+	if got := r.Written(); got != "[, error 2 at 1" {
+		t.Error(got)
+	}
+}

@@ -1,0 +1,103 @@
+package token_test
+
+import (
+	"strings"
+	"testing"
+
+	"hexapla/api"
+	"hexapla/num"
+	"hexapla/texts"
+	"hexapla/token"
+)
+
+// read reads a number from the beginning of text, and returns how many bytes it
+// takes, and its normal form or the error that is met.
+func read(n *token.Number, text string) (int, string, api.Errno) {
+	for i := range len(text) {
+		if !n.Goes(text[i]) {
+			form, e := n.End()
+			return i, form, e
+		}
+		if e := n.Add(text[i]); e != api.OK {
+			return i, "", e
+		}
+	}
+	form, e := n.End()
+	return len(text), form, e
+}
+
+func check(t *testing.T, text string, length int, form string, e api.Errno) {
+	t.Helper()
+	if gotLength, got, gotE := read(&token.Number{}, text); gotLength != length || got != form || gotE != e {
+		t.Errorf("%q: %d %q %v, not %d %q %v", text, gotLength, got, gotE, length, form, e)
+	}
+}
+
+func TestNumber(t *testing.T) {
+	for _, l := range append(texts.Numbers(), texts.LongNumbers()...) {
+		check(t, l.Text, len(l.Text), l.Want, api.OK)
+		for _, more := range []string{" ", "x", "-", ",", "\xff", "é"} {
+			check(t, l.Text+more, len(l.Text), l.Want, api.OK)
+		}
+	}
+	check(t, "01", 1, "0", api.OK)
+	check(t, "1-2", 1, "1", api.OK)
+	check(t, "1.5.2", 3, "15e-1", api.OK)
+	for _, text := range texts.OpenNumbers() {
+		check(t, text, len(text), "", api.ErrSyntax)
+		check(t, text+" 1", len(text), "", api.ErrSyntax)
+	}
+	for _, text := range texts.RefusedNumbers() {
+		check(t, text, len(text), "", api.ErrNumber)
+		check(t, text+"x", len(text), "", api.ErrNumber)
+	}
+	for _, text := range texts.TooLongNumbers() {
+		check(t, text, 30, "", api.ErrToken)
+		check(t, text+"0", 30, "", api.ErrToken)
+	}
+	for _, text := range []string{"", "x", "+1", ".5", "e1", " 1", "\xff"} {
+		check(t, text, 0, "", api.ErrSyntax)
+	}
+}
+
+// TestNumbersInRow reads numbers by one Number.
+func TestNumbersInRow(t *testing.T) {
+	var n token.Number
+	for rest := "1-2-0.5-1e1000-3.-4"; rest != ""; {
+		length, form, e := read(&n, rest)
+		want, wantE := num.Read(rest[:length])
+		if rest[:length] == "-3." {
+			wantE = api.ErrSyntax
+		}
+		if form != want || e != wantE {
+			t.Errorf("%q: %q %v", rest[:length], form, e)
+		}
+		rest = rest[length:]
+	}
+}
+
+// TestAllNumbers reads all short texts of the bytes of numbers.
+func TestAllNumbers(t *testing.T) {
+	for text := range texts.Short("-0.1e+ ", 6) {
+		length := 0
+		for length < len(text) {
+			if begins, _ := num.May(text[:length+1]); !begins {
+				break
+			}
+			length++
+		}
+		want, e := num.Read(text[:length])
+		if _, whole := num.May(text[:length]); !whole {
+			e = api.ErrSyntax
+		}
+		check(t, text, length, want, e)
+	}
+}
+
+func TestBlank(t *testing.T) {
+	for b := range 256 {
+		if got := token.Blank(byte(b)); got != strings.Contains("\t\n\r ", string([]byte{byte(b)})) {
+			t.Errorf("%d: %v", b, got)
+		}
+	}
+}
