@@ -13,27 +13,11 @@ var samples = []string{
 	"[[[[[[[", "[}", `"a`, `"\x"`, "12\xff", "\"\xe2\x82", "\"\xe2\x82\"", "[]]", "1\xc3\xa9", `{"k":{"k":null},"l":"m"}`,
 }
 
-// TestDivisions feeds short texts in all divisions, with Next asked between the
-// pieces and only in the end.
-func TestDivisions(t *testing.T) {
-	for _, text := range samples {
-		syntax.Divisions(t, text[:min(len(text), 12)])
-	}
-}
-
-// TestSamples holds some of the ends above, and each sample in pieces.
+// TestSamples holds each sample in pieces, and some of the ends.
 func TestSamples(t *testing.T) {
-	for _, text := range samples {
-		syntax.Each(t, text, syntax.Read(t, text))
-	}
+	syntax.Samples(t, samples...)
 	syntax.Check(t, "[1 ,2x", "[ 1 2", api.ErrSyntax, 5)
 	syntax.Check(t, `{"a":1,"a":2}`, `{ "a": 1`, api.ErrTwice, 9)
-}
-
-func TestNotEarly(t *testing.T) {
-	for _, text := range samples {
-		syntax.NotEarly(t, text)
-	}
 }
 
 func TestReportedAt(t *testing.T) {

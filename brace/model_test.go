@@ -174,23 +174,13 @@ func randomKey(r *rand.Rand, i int) string {
 // the model, also in pieces.
 func TestRandom(t *testing.T) {
 	r := rand.New(rand.NewSource(7))
-	met := map[api.Errno]int{}
-	for range 3000 {
+	write := func() string {
 		var b strings.Builder
 		random(r, &b, 3+r.Intn(5))
-		met[syntax.Against(t, b.String(), model)]++
-		for range 8 {
-			text := texts.Spoiled(b.String(), "[]{},:\"\\19.e- \nnut\x00\xff\xc3\x80x", r.Intn)
-			met[syntax.AgainstCut(t, text, model, r.Intn)]++
-		}
+		return b.String()
 	}
-	for _, e := range []api.Errno{
-		api.OK, api.ErrSyntax, api.ErrUTF, api.ErrToken, api.ErrDepth, api.ErrTwice, api.ErrFields, api.ErrNumber, api.ErrEscape,
-	} {
-		if met[e] < 20 {
-			t.Errorf("%v is met %d times", e, met[e])
-		}
-	}
+	syntax.Random(t, model, write, "[]{},:\"\\19.e- \nnut\x00\xff\xc3\x80x", r.Intn,
+		api.OK, api.ErrSyntax, api.ErrUTF, api.ErrToken, api.ErrDepth, api.ErrTwice, api.ErrFields, api.ErrNumber, api.ErrEscape)
 }
 
 // open returns the brackets that close what a text opens, whether it ends within

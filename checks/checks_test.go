@@ -1,6 +1,7 @@
 package checks_test
 
 import (
+	"bytes"
 	"slices"
 	"testing"
 
@@ -69,6 +70,11 @@ func with(fault decoder) checks.Syntax {
 	}}
 }
 
+// losing returns a syntax whose decoder takes n bytes of a piece, and no more.
+func losing(n int) checks.Syntax {
+	return with(decoder{feed: func(d *decoder, b []byte) bool { return d.Decoder.Feed(b[:min(len(b), n)]) }})
+}
+
 // decoding returns a syntax with a faulty Decode.
 func decoding(decode func(text []byte) ([]api.Event, api.Errno, int)) checks.Syntax {
 	return checks.Syntax{New: right.New, Decode: decode}
@@ -102,6 +108,7 @@ func all(s checks.Syntax) func(t checks.T) {
 		s.NotEarly(t, "[1, 2}")
 		s.Eventually(t, "[1, ", " ", "[ 1")
 		s.OnlyClose(t, "[1", "[", "1", api.ErrSyntax, 2)
+		s.Samples(t, "[1,2]", "[3}", "4")
 		s.Independent(t, "[1,2]", "[3}", "4")
 		s.Kept(t, `["a","b"]`, "[1,2,3]")
 		s.FedBehind(t, "[1,]", "", "]", "\xff")
@@ -296,9 +303,15 @@ func TestFaultyOrder(t *testing.T) {
 	}, close: func(d *decoder) { d.n++; d.Decoder.Close() }})
 	expect(t, "late", true, func(t checks.T) { late.Eventually(t, "[1, ", " ", "[ 1") })
 	expect(t, "late, with an error", true, func(t checks.T) { late.NotEarly(t, "[1, 2}") })
-	early := with(decoder{feed: func(d *decoder, b []byte) bool { return d.Decoder.Feed(slices.Concat(b, []byte("  ")[:len(b)])) }})
+	early := with(decoder{feed: func(d *decoder, b []byte) bool {
+		return d.Decoder.Feed(append(slices.Clone(b), bytes.Repeat([]byte(" "), len(b))...))
+	}})
 	expect(t, "early", true, func(t checks.T) { early.NotEarly(t, "[1, 2}") })
 	expect(t, "early, ahead of Close", true, func(t checks.T) { early.OnlyClose(t, "[1", "[", "1", api.ErrSyntax, 2) })
+	for name, s := range map[string]checks.Syntax{"early": early, "late": late, "losing": losing(1)} {
+		expect(t, name, true, func(t checks.T) { s.Samples(t, "1", "[1, 2}") })
+	}
+	expect(t, "losing far behind", true, func(t checks.T) { losing(12).Samples(t, "[1,2,3,4,5,6]") })
 	one := brace.New()
 	shared := checks.Syntax{New: func() checks.Decoder { return one }, Decode: brace.Decode}
 	expect(t, "shared", true, func(t checks.T) { shared.Independent(t, "[1,2]", "[3}", "4") })

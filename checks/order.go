@@ -87,6 +87,17 @@ func (s Syntax) OnlyClose(t T, text, early, late string, e api.Errno, at int) {
 	f.report(t, text)
 }
 
+// Samples holds texts in pieces of each length, of which none may be early, and
+// what they begin with in all divisions.
+func (s Syntax) Samples(t T, texts ...string) {
+	t.Helper()
+	for _, text := range texts {
+		s.Each(t, text, s.Read(t, text))
+		s.NotEarly(t, text)
+		s.Divisions(t, text[:min(len(text), 12)])
+	}
+}
+
 // Independent lets decoders of texts take turns.
 func (s Syntax) Independent(t T, texts ...string) {
 	t.Helper()

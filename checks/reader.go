@@ -8,6 +8,7 @@ import (
 	"hexapla/api"
 	"hexapla/num"
 	"hexapla/quote"
+	"hexapla/texts"
 )
 
 // Reader is what the models of syntaxes have in common. A model has a whole text
@@ -196,4 +197,24 @@ func (s Syntax) AgainstCut(t T, text string, model func(r *Reader), pick func(n 
 	}
 	s.Pieces(t, pieces, pick(2) == 0, s.Read(t, text))
 	return e
+}
+
+// Random holds the texts that write makes, and what becomes of them by small
+// changes that put some bytes in, against a model, also in pieces, and that each
+// of these errors is met often. For pick see texts.Spoiled.
+func (s Syntax) Random(t T, model func(r *Reader), write func() string, bytes string, pick func(n int) int, errs ...api.Errno) {
+	t.Helper()
+	met := map[api.Errno]int{}
+	for range 3000 {
+		text := write()
+		met[s.Against(t, text, model)]++
+		for range 8 {
+			met[s.AgainstCut(t, texts.Spoiled(text, bytes, pick), model, pick)]++
+		}
+	}
+	for _, e := range errs {
+		if met[e] < 20 {
+			t.Error(e.Error(), "is met", strconv.Itoa(met[e]), "times")
+		}
+	}
 }

@@ -1,6 +1,7 @@
 package checks_test
 
 import (
+	"math/rand"
 	"strconv"
 	"strings"
 	"testing"
@@ -82,7 +83,32 @@ func TestAgainst(t *testing.T) {
 	if e := right.AgainstCut(c, "1x", scalar, pick); e != api.ErrSyntax {
 		t.Error(e)
 	}
-	lost := with(decoder{feed: func(d *decoder, b []byte) bool { return d.Decoder.Feed(b[:min(len(b), 1)]) }})
-	expect(t, "pieces of one byte", true, func(t checks.T) { lost.AgainstCut(t, "12", scalar, pick) })
-	expect(t, "what is decoded at once", false, func(t checks.T) { lost.Against(t, "12", scalar) })
+	expect(t, "pieces of one byte", true, func(t checks.T) { losing(1).AgainstCut(t, "12", scalar, pick) })
+	expect(t, "what is decoded at once", false, func(t checks.T) { losing(1).Against(t, "12", scalar) })
+}
+
+func TestRandom(t *testing.T) {
+	pick := rand.New(rand.NewSource(3)).Intn
+	scalar := func(r *checks.Reader) { item(r) }
+	for _, l := range []struct {
+		name, text, bytes string
+		syntax            checks.Syntax
+		errs              []api.Errno
+		faulty            bool
+	}{
+		{"right", "10", "1x", right, []api.Errno{api.OK, api.ErrSyntax}, false},
+		{"nothing asked", "10", "1x", right, nil, false},
+		{"an error that is not met", "10", "1x", right, []api.Errno{api.ErrSyntax, api.ErrNumber}, true},
+		{"a text that is not of the model", " 10", "1x", right, nil, true},
+		{"a change that is not", "10", " ", right, nil, true},
+		{"in pieces", "10", "1x", losing(1), nil, true},
+	} {
+		written := 0
+		expect(t, l.name, l.faulty, func(t checks.T) {
+			l.syntax.Random(t, scalar, func() string { written++; return l.text }, l.bytes, pick, l.errs...)
+		})
+		if written != 3000 {
+			t.Errorf("%s: %d texts", l.name, written)
+		}
+	}
 }

@@ -14,28 +14,12 @@ var samples = []string{
 	`#<"e")`, `#<"e"@"k""v"`, `#<"e"@"k""v")`, `#<"e""x")`, `#<"e""")`, `#<"e""x""y")`, `#<"e"#<"f"))`, `#<"1"`, `#<"e"@"1"`, `#<"e"@"k"""@"k"`, `#<"{u}e"@"{u}k" "v" "x" #<"f") "y") ; z`,
 }
 
-// TestDivisions feeds short texts in all divisions, with Next asked between the
-// pieces and only in the end.
-func TestDivisions(t *testing.T) {
-	for _, text := range samples {
-		syntax.Divisions(t, text[:min(len(text), 12)])
-	}
-}
-
-// TestSamples holds some of the ends above, and each sample in pieces.
+// TestSamples holds each sample in pieces, and some of the ends.
 func TestSamples(t *testing.T) {
-	for _, text := range samples {
-		syntax.Each(t, text, syntax.Read(t, text))
-	}
+	syntax.Samples(t, samples...)
 	syntax.Check(t, "(1 #x", "[ 1", api.ErrSyntax, 4)
 	syntax.Check(t, `#("a"1"a"2)`, `{ "a": 1`, api.ErrTwice, 8)
 	syntax.CheckOK(t, `#<"{u}e"@"{u}k" "v" "x" #<"f") "y") ; z`, `<{u}e @{u}k="v" "x" <f > "y" >`)
-}
-
-func TestNotEarly(t *testing.T) {
-	for _, text := range samples {
-		syntax.NotEarly(t, text)
-	}
 }
 
 func TestReportedAt(t *testing.T) {

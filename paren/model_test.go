@@ -263,23 +263,13 @@ func (w *writer) element(depth int) {
 // the model, also in pieces.
 func TestRandom(t *testing.T) {
 	r := rand.New(rand.NewSource(8))
-	met := map[api.Errno]int{}
-	for range 3000 {
+	write := func() string {
 		w := &writer{Rand: r}
 		w.value(3 + r.Intn(5))
-		met[syntax.Against(t, w.String(), model)]++
-		for range 8 {
-			text := texts.Spoiled(w.String(), "()#<@;\"\\19.e- \nntf\x00\xff\xc3\x80x", r.Intn)
-			met[syntax.AgainstCut(t, text, model, r.Intn)]++
-		}
+		return w.String()
 	}
-	for _, e := range []api.Errno{
-		api.OK, api.ErrSyntax, api.ErrUTF, api.ErrToken, api.ErrDepth, api.ErrTwice, api.ErrFields, api.ErrNumber, api.ErrEscape, api.ErrName,
-	} {
-		if met[e] < 20 {
-			t.Errorf("%v is met %d times", e, met[e])
-		}
-	}
+	syntax.Random(t, model, write, "()#<@;\"\\19.e- \nntf\x00\xff\xc3\x80x", r.Intn,
+		api.OK, api.ErrSyntax, api.ErrUTF, api.ErrToken, api.ErrDepth, api.ErrTwice, api.ErrFields, api.ErrNumber, api.ErrEscape, api.ErrName)
 }
 
 // both writes a random value, in at most depth others, as a text of this syntax
