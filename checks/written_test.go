@@ -1,6 +1,7 @@
 package checks_test
 
 import (
+	"slices"
 	"testing"
 
 	"hexapla/api"
@@ -16,6 +17,7 @@ func TestWritten(t *testing.T) {
 		{[]api.Event{{Kind: api.Null}, {Kind: api.Bool, Text: "true"}, {Kind: api.Number, Text: "1e3"}, {Kind: api.Text, Text: "a\"\n"}}, `null true 1e3 "a\"\n"`},
 		{[]api.Event{{Kind: api.List}, {Kind: api.EndList}, {Kind: api.Map}, {Kind: api.Key}, {Kind: api.EndMap}}, `[ ] { "": }`},
 		{[]api.Event{{Kind: api.Elem, Text: "{u}e"}, {Kind: api.Attr, Text: "{u}k", Val: "v w"}, {Kind: api.EndElem}}, `<{u}e @{u}k="v w" >`},
+		{[]api.Event{{Kind: api.Elem, Text: "e"}, {Kind: api.Attr, Text: "{u=v}k", Val: "=\""}, {Kind: api.Text, Text: ": ?@"}}, `<e @{u=v}k="=\"" ": ?@"`},
 		{[]api.Event{{}, {Kind: 13}, {Kind: api.Null, Text: "x"}, {Kind: api.Bool, Text: "null"}, {Kind: api.Number, Text: "10"}}, `?0"""" ?13"""" ?1"x""" ?2"null""" ?3"10"""`},
 		{[]api.Event{{Kind: api.Text, Val: "x"}, {Kind: api.Text, Text: "\xff"}, {Kind: api.Key, Text: "a", Val: "x"}}, `?4"""x" ?4"\xff""" ?8"a""x"`},
 		{[]api.Event{{Kind: api.List, Text: "x"}, {Kind: api.EndList, Text: "x"}, {Kind: api.Map, Val: "x"}, {Kind: api.EndMap, Val: "x"}}, `?5"x""" ?6"x""" ?7"""x" ?9"""x"`},
@@ -24,9 +26,30 @@ func TestWritten(t *testing.T) {
 		if got := checks.Written(l.events); got != l.want {
 			t.Errorf("%s, not %s", got, l.want)
 		}
+		if got := checks.Events(l.want); !slices.Equal(got, l.events) {
+			t.Errorf("%s: %v, not %v", l.want, got, l.events)
+		}
 	}
 	r := checks.Result{Events: []api.Event{{Kind: api.List}}, Err: api.ErrSyntax, At: 1}
 	if got := r.Written(); got != "[, error 2 at 1" {
 		t.Error(got)
+	}
+}
+
+// TestEventsWritten holds that what Written never writes is refused, but for
+// wide blanks between the events.
+func TestEventsWritten(t *testing.T) {
+	if got := checks.Written(checks.Events(` [  "a"   1 `)); got != `[ "a" 1` {
+		t.Error(got)
+	}
+	for _, written := range []string{`"a`, `"\y"`, `"a"b`, `"a""b"`, `"a":1`, `@`, `@a`, `@a=`, `@a=b`, `@a="b`, `@a="b"c`, `?`, `?1`, `?1""`, `?x""""`, `?1"""`, `?1"" ""`, `?1""""2`} {
+		func() {
+			defer func() {
+				if recover() == nil {
+					t.Error(written)
+				}
+			}()
+			checks.Events(written)
+		}()
 	}
 }
