@@ -28,6 +28,7 @@ type Decoder interface {
 type Syntax struct {
 	New    func() Decoder
 	Decode func(text []byte) ([]api.Event, api.Errno, int)
+	Lines  bool // each line is examined as a whole: see lines.go
 }
 
 // Result is what a text is decoded to.
@@ -102,7 +103,7 @@ func (s Syntax) CheckOK(t T, text, want string) {
 func (s Syntax) CheckLast(t T, text, want string, e api.Errno) {
 	t.Helper()
 	s.Check(t, text, want, e, len(text)-1)
-	for _, more := range []string{"]", ")", "\xff"} {
+	for _, more := range []string{"]", ")", s.unseen()} {
 		r := s.Whole(t, text+more, want, e, len(text)-1)
 		s.Pieces(t, []string{text, more}, true, r)
 	}

@@ -13,6 +13,7 @@ type feeding struct {
 	fault string
 	got   []api.Event
 	fed   int // bytes
+	shown int // bytes behind which an error is told, also ahead of Close
 }
 
 // note keeps a fault, if it is the first one.
@@ -84,9 +85,9 @@ func (f *feeding) behind(want Result) {
 }
 
 // ask holds what a decoder answers ahead of Close: its end comes with the byte
-// at which an error is met, and not before.
+// that shows an error, and not before.
 func (f *feeding) ask(want Result) {
-	if want.Err != api.OK && want.At < f.fed {
+	if want.Err != api.OK && f.fed >= f.shown {
 		f.behind(want)
 	} else {
 		f.ahead()

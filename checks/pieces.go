@@ -12,7 +12,8 @@ import (
 // in the end. It holds the result, and that the end does not come early.
 func (s Syntax) Pieces(t T, pieces []string, between bool, want Result) {
 	t.Helper()
-	f := &feeding{Decoder: s.New()}
+	text := strings.Join(pieces, "")
+	f := &feeding{Decoder: s.New(), shown: s.shown(text, want)}
 	if between {
 		f.ask(want)
 	}
@@ -23,7 +24,7 @@ func (s Syntax) Pieces(t T, pieces []string, between bool, want Result) {
 		}
 	}
 	f.finish(want)
-	f.report(t, strings.Join(pieces, ""))
+	f.report(t, text)
 }
 
 // Each holds the result of a text in pieces of each length up to that of the

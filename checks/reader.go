@@ -19,6 +19,8 @@ type Reader struct {
 	told  []api.Event
 	where []int      // each of them is reported
 	keys  [][]string // of each open value, also of those that have none
+	lines string     // of which Text is what is ahead of the end of one
+	next  int        // where the next one begins
 }
 
 // failure is what a reader stops with.
@@ -77,8 +79,11 @@ func (r *Reader) Key(key string) {
 // Shut counts one open value less.
 func (r *Reader) Shut() { r.keys = r.keys[:len(r.keys)-1] }
 
-// Number reads a number, which is as long as possible, and goes over it.
-func (r *Reader) Number() {
+// Number reads a number, which is as long as possible, and reports it behind it.
+func (r *Reader) Number() { r.Tell(api.Event{Kind: api.Number, Text: r.Form()}) }
+
+// Form reads a number, which is as long as possible, and returns its normal form.
+func (r *Reader) Form() string {
 	first := r.At
 	for r.At < len(r.Text) {
 		if begins, _ := num.May(r.Text[first : r.At+1]); !begins {
@@ -96,7 +101,7 @@ func (r *Reader) Number() {
 	if e != api.OK {
 		r.Fail(api.ErrNumber)
 	}
-	r.Tell(api.Event{Kind: api.Number, Text: form})
+	return form
 }
 
 // Quoted reads a quoted string, but for its closing ", and returns its contents.
@@ -177,7 +182,11 @@ func startsCharacter(bytes string) bool {
 // the last one, as tests go through very many texts.
 func (s Syntax) Against(t T, text string, model func(r *Reader)) api.Errno {
 	t.Helper()
-	got, want := s.Read(t, text), Read(text, model)
+	read := Read
+	if s.Lines {
+		read = ReadLines
+	}
+	got, want := s.Read(t, text), read(text, model)
 	if !slices.Equal(got.Events, want.Events) || got.Err != want.Err || got.At != want.At {
 		t.Fatal(strconv.Quote(text)+":", got.Written(), "is not", want.Written())
 	}

@@ -24,16 +24,27 @@ type Machine interface {
 type Out struct {
 	check   *events.Check
 	waiting []api.Event // to be asked for
+	back    int         // from the byte to the one at which an error is met
 }
 
-// Tell adds x to the events, or returns the error with which it is refused.
-func (o *Out) Tell(x api.Event) api.Errno {
+// Tell adds x to the events, or returns the error with which it is refused: by
+// the check of documents, or by one of others, which are asked behind that.
+func (o *Out) Tell(x api.Event, others ...func(api.Event) api.Errno) api.Errno {
 	if e := o.check.Step(x); e != api.OK {
 		return e
+	}
+	for _, other := range others {
+		if e := other(x); e != api.OK {
+			return e
+		}
 	}
 	o.waiting = append(o.waiting, x)
 	return api.OK
 }
+
+// Back lets the error that a machine then returns be one that is met n bytes
+// ahead of where it stands.
+func (o *Out) Back(n int) { o.back = n }
 
 // take removes the first event that is waiting.
 func (o *Out) take() api.Event {
@@ -49,7 +60,7 @@ type Stream struct {
 	scan    *src.Scan
 	out     *Out
 	err     api.Errno
-	read    int // the bytes so far, or those ahead of the one with the error
+	read    int // the bytes so far, but for one with which an error was shown
 	closed  bool
 	ended   bool // Next has returned Done or Failed
 }
@@ -118,13 +129,16 @@ func (s *Stream) End() (api.Errno, int) {
 	if !s.ended {
 		return api.OK, -1
 	}
-	return s.err, s.read
+	return s.err, s.at()
 }
+
+// at returns where the error is met, or how long the text is.
+func (s *Stream) at() int { return s.read - s.out.back }
 
 // Decode returns all events and the end of a text that m has not met.
 func Decode(m Machine, text []byte) ([]api.Event, api.Errno, int) {
 	s := New(m)
 	s.Feed(text)
 	s.Close()
-	return s.out.waiting, s.err, s.read
+	return s.out.waiting, s.err, s.at()
 }

@@ -232,3 +232,97 @@ func (m *teller) End(out *stream.Out) api.Errno {
 	}
 	return api.OK
 }
+
+// TestOthers holds that an event is told if none of the others that are asked
+// refuses it, and that they are asked behind the check.
+func TestOthers(t *testing.T) {
+	for _, l := range []struct {
+		text   string
+		others []api.Errno // what each of them answers
+		told   string
+		e      api.Errno
+		at     int
+		asked  int // how often they are
+	}{
+		{"n", nil, "n", api.OK, 1, 0},
+		{"[n]", []api.Errno{api.OK, api.OK}, "[n]", api.OK, 3, 6},
+		{".[n]", []api.Errno{api.OK, api.ErrAnchorSpace, api.OK}, "", api.ErrAnchorSpace, 1, 2},
+		{"]", []api.Errno{api.ErrAnchorSpace}, "", api.ErrEvents, 0, 0},
+		{"[!", []api.Errno{api.OK, api.OK}, "[", api.ErrToken, 1, 2},
+	} {
+		m := &asking{others: l.others}
+		got, e, at := stream.Decode(m, []byte(l.text))
+		if kinds(got) != l.told || e != l.e || at != l.at || m.asked != l.asked {
+			t.Errorf("%q: %q %v %d, asked %d times", l.text, kinds(got), e, at, m.asked)
+		}
+	}
+}
+
+// asking is a machine that tells the events of marks to others, too.
+type asking struct {
+	others []api.Errno
+	asked  int
+}
+
+func (m *asking) Step(b byte, out *stream.Out) api.Errno {
+	var all []func(api.Event) api.Errno
+	for _, e := range m.others {
+		all = append(all, func(api.Event) api.Errno { m.asked++; return e })
+	}
+	switch b {
+	case '[':
+		return out.Tell(api.Event{Kind: api.List}, all...)
+	case ']':
+		return out.Tell(api.Event{Kind: api.EndList}, all...)
+	case 'n':
+		return out.Tell(api.Event{Kind: api.Null}, all...)
+	case '!':
+		return api.ErrToken
+	}
+	return api.OK
+}
+
+func (m *asking) End(*stream.Out) api.Errno { return api.OK }
+
+// late is a machine that meets an error at the digit before a mark, or before the
+// end, as many bytes ahead as the digit says.
+type late struct{ digit int }
+
+func (m *late) Step(b byte, out *stream.Out) api.Errno {
+	if b != '!' {
+		m.digit = int(b - '0')
+		return api.OK
+	}
+	return m.End(out)
+}
+
+func (m *late) End(out *stream.Out) api.Errno {
+	out.Back(m.digit)
+	return api.ErrSyntax
+}
+
+// TestBack holds errors that are met ahead of where the text has been read to.
+func TestBack(t *testing.T) {
+	for _, l := range []struct {
+		text string
+		e    api.Errno
+		at   int
+	}{
+		{"1", api.ErrSyntax, 0}, {"0", api.ErrSyntax, 1}, {"00003", api.ErrSyntax, 2}, {"01!", api.ErrSyntax, 1}, {"002!9", api.ErrSyntax, 1}, {"000!", api.ErrSyntax, 3}, {"12\xff", api.ErrUTF, 2}, {"12\xc3", api.ErrUTF, 3},
+	} {
+		if got, e, at := stream.Decode(&late{}, []byte(l.text)); len(got) != 0 || e != l.e || at != l.at {
+			t.Errorf("%q: %v %v %d", l.text, got, e, at)
+		}
+		s := stream.New(&late{})
+		checkFeed(t, s, l.text, true)
+		s.Close()
+		checkTake(t, s, "", api.Failed)
+		checkEnd(t, s, l.e, l.at)
+	}
+	s := stream.New(&late{})
+	checkFeed(t, s, "0002", true)
+	checkTake(t, s, "", api.More)
+	checkFeed(t, s, "!", true)
+	checkTake(t, s, "", api.Failed)
+	checkEnd(t, s, api.ErrSyntax, 2)
+}

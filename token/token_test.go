@@ -5,14 +5,22 @@ import (
 	"testing"
 
 	"hexapla/api"
+	"hexapla/names"
 	"hexapla/num"
 	"hexapla/texts"
 	"hexapla/token"
 )
 
-// read reads a number from the beginning of text, and returns how many bytes it
+// open is a number or a name.
+type open interface {
+	Goes(b byte) bool
+	Add(b byte) api.Errno
+	End() (string, api.Errno)
+}
+
+// read reads a token from the beginning of text, and returns how many bytes it
 // takes, and its normal form or the error that is met.
-func read(n *token.Number, text string) (int, string, api.Errno) {
+func read(n open, text string) (int, string, api.Errno) {
 	for i := range len(text) {
 		if !n.Goes(text[i]) {
 			form, e := n.End()
@@ -91,6 +99,64 @@ func TestAllNumbers(t *testing.T) {
 			e = api.ErrSyntax
 		}
 		check(t, text, length, want, e)
+	}
+}
+
+func checkName(t *testing.T, text string, length int, e api.Errno) {
+	t.Helper()
+	want := text[:length]
+	if e != api.OK {
+		want = ""
+	}
+	if gotLength, got, gotE := read(&token.Name{}, text); gotLength != length || got != want || gotE != e {
+		t.Errorf("%q: %d %q %v, not %d %v", text, gotLength, got, gotE, length, e)
+	}
+}
+
+func TestName(t *testing.T) {
+	long := strings.Repeat("n", 16)
+	for _, name := range []string{"a", "Z", "_", "a1", "a-", "a.b", "_-_", "null", long, "_" + strings.Repeat("9", 15)} {
+		checkName(t, name, len(name), api.OK)
+		for _, more := range []string{" ", ":", "\"", "\x00", "\xff", "é", "&", "/"} {
+			checkName(t, name+more, len(name), api.OK)
+		}
+	}
+	for _, more := range []string{"a", "Z", "0", "_", "-", "."} {
+		checkName(t, long+more, 16, api.ErrToken)
+		checkName(t, long+more+":", 16, api.ErrToken)
+	}
+	for _, text := range []string{"", " a", "1", "-", ".", ":", "\xff", "é"} {
+		checkName(t, text, 0, api.ErrSyntax)
+	}
+}
+
+// TestNamesInRow reads names by one Name.
+func TestNamesInRow(t *testing.T) {
+	var n token.Name
+	for _, text := range []string{"a1", "", "b", strings.Repeat("n", 16), "c"} {
+		if length, name, e := read(&n, text); length != len(text) || name != text || (e == api.OK) != (text != "") {
+			t.Errorf("%q: %d %q %v", text, length, name, e)
+		}
+	}
+}
+
+// TestAllBytes holds all bytes that a name may begin or go on with.
+func TestAllBytes(t *testing.T) {
+	for b := range 256 {
+		text := string([]byte{byte(b)})
+		var n token.Name
+		if got := n.Goes(byte(b)); got != names.Local(text) {
+			t.Errorf("%d: %v", b, got)
+		}
+		for _, begin := range []string{"a", "_.", strings.Repeat("n", 15), strings.Repeat("n", 16)} {
+			var n token.Name
+			for i := range len(begin) {
+				n.Add(begin[i])
+			}
+			if got := n.Goes(byte(b)); got != names.Local("a"+text) {
+				t.Errorf("%s, %d: %v", begin, b, got)
+			}
+		}
 	}
 }
 

@@ -1,0 +1,42 @@
+package outline_test
+
+import (
+	"strings"
+	"testing"
+
+	"hexapla/api"
+	"hexapla/checks"
+	"hexapla/outline"
+)
+
+// syntax is what is held against the promises of all decoders.
+var syntax = checks.Syntax{New: func() checks.Decoder { return outline.New() }, Decode: outline.Decode, Lines: true}
+
+// lines joins lines by newlines.
+func lines(l ...string) string { return strings.Join(l, "\n") }
+
+// good holds the events of a text without errors, also with a newline behind it.
+func good(t *testing.T, text, want string) {
+	t.Helper()
+	syntax.CheckOK(t, text, want)
+	syntax.Whole(t, text+"\n", want, api.OK, len(text)+1)
+}
+
+// last holds the events of texts whose error is met at their last byte.
+func last(t *testing.T, want string, e api.Errno, texts ...string) {
+	t.Helper()
+	for _, text := range texts {
+		syntax.CheckLast(t, text, want, e)
+	}
+}
+
+// open holds the events of texts that are incomplete where they end, and also
+// where the line ends.
+func open(t *testing.T, want string, texts ...string) {
+	t.Helper()
+	for _, text := range texts {
+		syntax.CheckOpen(t, text, want)
+		syntax.Check(t, text+"\n", want, api.ErrSyntax, len(text))
+		syntax.Check(t, text+"\n- 1\n", want, api.ErrSyntax, len(text))
+	}
+}
