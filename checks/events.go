@@ -82,3 +82,22 @@ func bare(written string) api.Event {
 	}
 	return api.Event{Kind: api.Number, Text: written}
 }
+
+// Placed returns a text, its events, and the byte at which each of them is
+// reported. The text is told with a ^ for each, ahead of this byte.
+func Placed(t T, marked, written string) (string, []api.Event, []int) {
+	t.Helper()
+	events := Events(written)
+	var places []int
+	text := ""
+	for i, piece := range strings.Split(marked, "^") {
+		if i > 0 {
+			places = append(places, len(text))
+		}
+		text += piece
+	}
+	if len(places) != len(events) {
+		t.Fatal(strconv.Quote(marked)+":", len(places), "places for", len(events), "events")
+	}
+	return text, events, places
+}

@@ -25,6 +25,9 @@ func inLines(s checks.Syntax) func(t checks.T) {
 		s.Check(t, "- x\n- 2\xff", "[", api.ErrSyntax, 2)
 		s.CheckOpen(t, "- 1\n- [2,", "[ 1 [ 2")
 		s.Check(t, "- 1\n- [2,\n", "[ 1 [ 2", api.ErrSyntax, 9)
+		s.CheckLines(t, "- 1\n- 2", "[ 1 2 ]")
+		s.CheckOpenLine(t, "- 1\n- [2", "- 3", "[ 1 [ 2")
+		s.NoLines(t, texts.Pair{Text: "- 1\n", Want: "[ 1"}, "", "- ", "x")
 		s.Samples(t, "- 1\n- x\n- 2", "-\n- \xff", "1\n\n#\n2\n", strings.Repeat("#", 161)+"\n")
 		s.FedBehind(t, "- x\n", "", "- 1\n", "\xff")
 		s.NoNumbers(t, texts.Pair{Text: "- ", Want: "["}, " ", "x")
@@ -61,6 +64,10 @@ func TestLines(t *testing.T) {
 	asBytes.Lines, asLines.Lines = false, true
 	expect(t, "lines as bytes", true, func(t checks.T) { asBytes.Check(t, "- x\n", "[", api.ErrSyntax, 2) })
 	expect(t, "bytes as lines", true, func(t checks.T) { asLines.Check(t, "[] x\n", "[ ]", api.ErrSyntax, 3) })
+	expect(t, "no last newline", true, func(t checks.T) { right.CheckLines(t, "[1]", "[ 2 ]") })
+	expect(t, "no open line", true, func(t checks.T) { rightLines.CheckOpenLine(t, "-", "-", "[") })
+	expect(t, "an open text", true, func(t checks.T) { right.CheckOpenLine(t, "[1,", "2", "[ 1") })
+	wrongLines(t)
 	// A decoder that is one byte behind fails late, one that ends each line itself fails early.
 	late := shiftedBy(func(d *shifted, b []byte) bool {
 		all := append(d.kept, b...)
@@ -141,4 +148,35 @@ func TestAgainstLines(t *testing.T) {
 	noLines := rightLines
 	noLines.Lines = false
 	expect(t, "no lines", true, func(t checks.T) { noLines.Against(t, "1", item) })
+}
+
+// wrongLines lets the results of some lines be other ones.
+func wrongLines(t *testing.T) {
+	t.Helper()
+	first := texts.Pair{Text: "- 1\n", Want: "[ 1"}
+	for name, wrong := range map[string]func(r *checks.Result){
+		"token late":  func(r *checks.Result) { r.At += changed(r.Err == api.ErrToken) },
+		"token early": func(r *checks.Result) { r.At -= changed(r.Err == api.ErrToken) },
+		"no token":    func(r *checks.Result) { r.Err -= api.Errno(changed(r.Err == api.ErrToken)) },
+		"utf late":    func(r *checks.Result) { r.At += changed(r.Err == api.ErrUTF) },
+		"no utf":      func(r *checks.Result) { r.Err -= api.Errno(changed(r.Err == api.ErrUTF)) },
+		"events":      func(r *checks.Result) { r.Events = r.Events[:len(r.Events)-changed(r.Err == api.ErrUTF)] },
+	} {
+		s := checks.Syntax{New: rightLines.New, Lines: true, Decode: func(text []byte) ([]api.Event, api.Errno, int) {
+			l, e, at := outline.Decode(text)
+			r := &checks.Result{Events: l, Err: e, At: at}
+			wrong(r)
+			return r.Events, r.Err, r.At
+		}}
+		expect(t, name, true, func(t checks.T) { s.NoLines(t, first, "- ") })
+	}
+	expect(t, "other events", true, func(t checks.T) { rightLines.NoLines(t, texts.Pair{Text: "- 1\n", Want: "["}, "- ") })
+}
+
+// changed returns 1 if something is to be changed.
+func changed(is bool) int {
+	if is {
+		return 1
+	}
+	return 0
 }

@@ -53,3 +53,21 @@ func TestEventsWritten(t *testing.T) {
 		}()
 	}
 }
+
+func TestPlaced(t *testing.T) {
+	text, events, places := checks.Placed(t, "a^[1^2^]^b", "[ 12 ] null")
+	if text != "a[12]b" || checks.Written(events) != "[ 12 ] null" || !slices.Equal(places, []int{1, 3, 4, 5}) {
+		t.Error(text, events, places)
+	}
+	text, events, places = checks.Placed(t, "^^ab^", "[ 1 ]")
+	if text != "ab" || checks.Written(events) != "[ 1 ]" || !slices.Equal(places, []int{0, 0, 2}) {
+		t.Error(text, events, places)
+	}
+	text, events, places = checks.Placed(t, "a", "")
+	if text != "a" || len(events) > 0 || len(places) > 0 {
+		t.Error(text, events, places)
+	}
+	for _, written := range []string{"", "1", "[ 1 ]"} {
+		expect(t, written, true, func(t checks.T) { checks.Placed(t, "a^b^c", written) })
+	}
+}

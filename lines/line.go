@@ -9,9 +9,10 @@ import (
 
 // Line is a line, without its newline, that is read from the beginning.
 type Line struct {
-	Text string
-	At   int // where the line is read: all bytes ahead of it have been
-	out  *stream.Out
+	Text   string
+	At     int // where the line is read: all bytes ahead of it have been
+	out    *stream.Out
+	others []func(api.Event) api.Errno
 }
 
 // failure is what the parsing of a line is aborted with.
@@ -68,11 +69,16 @@ func (l *Line) Over() bool { return l.At == len(l.Text) }
 // Is reports whether the next byte is b.
 func (l *Line) Is(b byte) bool { return !l.Over() && l.Text[l.At] == b }
 
-// Expect reads a byte that must be b.
-func (l *Line) Expect(b byte) {
+// Meet aborts unless the next byte is b.
+func (l *Line) Meet(b byte) {
 	if !l.Is(b) {
 		l.Fail(api.ErrSyntax)
 	}
+}
+
+// Expect reads a byte that must be b.
+func (l *Line) Expect(b byte) {
+	l.Meet(b)
 	l.At++
 }
 
@@ -83,13 +89,31 @@ func (l *Line) Blanks() {
 	}
 }
 
+// Comment reads the blanks that the line begins with, and reports whether it is
+// a comment, which has no meaning.
+func (l *Line) Comment() bool {
+	l.Blanks()
+	return l.Over() || l.Is('#')
+}
+
+// Finish reads the blanks that the line ends with.
+func (l *Line) Finish() {
+	l.Blanks()
+	if !l.Over() {
+		l.Fail(api.ErrSyntax)
+	}
+}
+
 // NameAhead reports whether a local name begins with the next byte.
 func (l *Line) NameAhead() bool { return !l.Over() && (&token.Name{}).Goes(l.Text[l.At]) }
 
-// Tell tells an event that is reported at the next byte. For others see
-// stream.Out.
-func (l *Line) Tell(x api.Event, others ...func(api.Event) api.Errno) {
-	l.Must(l.out.Tell(x, others...))
+// Tell tells an event that is reported at the next byte.
+func (l *Line) Tell(x api.Event) { l.Must(l.out.Tell(x, l.others...)) }
+
+// Last tells an event that is reported at the next byte, which is read then.
+func (l *Line) Last(x api.Event) {
+	l.Tell(x)
+	l.At++
 }
 
 // The functions below read a token, but for its last byte, at which an event is
@@ -101,9 +125,7 @@ func (l *Line) Word(word string) {
 	for i := range last {
 		l.Expect(word[i])
 	}
-	if !l.Is(word[last]) {
-		l.Fail(api.ErrSyntax)
-	}
+	l.Meet(word[last])
 }
 
 // Quoted reads a quoted string, and returns its contents.
@@ -122,6 +144,9 @@ func (l *Line) Quoted() string {
 
 // Name reads a local name, which is as long as possible.
 func (l *Line) Name() string { return l.longest(&token.Name{}) }
+
+// Bare reads a local name without a dot, which is as long as possible.
+func (l *Line) Bare() string { return l.longest(&token.Bare{}) }
 
 // Number reads a number, which is as long as possible, and returns its normal
 // form. The error of one that may not be is met at the byte behind it.
@@ -157,7 +182,33 @@ func (l *Line) Parts(closing byte, part func()) {
 		l.Blanks()
 		part()
 	}
-	if !l.Is(closing) {
-		l.Fail(api.ErrSyntax)
+	l.Meet(closing)
+}
+
+// Value reads and tells a value of a kind that syntaxes of lines have in common.
+// A syntax says how the values of a list and the fields of a map are read.
+func (l *Line) Value(value, field func()) {
+	switch {
+	case l.Is('['):
+		l.Last(api.Event{Kind: api.List})
+		l.Parts(']', value)
+		l.Last(api.Event{Kind: api.EndList})
+	case l.Is('{'):
+		l.Last(api.Event{Kind: api.Map})
+		l.Parts('}', field)
+		l.Last(api.Event{Kind: api.EndMap})
+	case l.Is('"'):
+		l.Last(api.Event{Kind: api.Text, Text: l.Quoted()})
+	case l.Is('t'):
+		l.boolean("true")
+	case l.Is('f'):
+		l.boolean("false")
+	default:
+		l.Last(api.Event{Kind: api.Number, Text: l.Number()})
 	}
+}
+
+func (l *Line) boolean(word string) {
+	l.Word(word)
+	l.Last(api.Event{Kind: api.Bool, Text: word})
 }

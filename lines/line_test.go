@@ -5,6 +5,7 @@ import (
 	"testing"
 
 	"hexapla/api"
+	"hexapla/checks"
 	"hexapla/lines"
 	"hexapla/texts"
 )
@@ -47,6 +48,11 @@ func TestBytes(t *testing.T) {
 	check(t, colon, "::", "", 1, api.OK)
 	check(t, colon, "", "", 0, api.ErrSyntax)
 	check(t, colon, "a:", "", 0, api.ErrSyntax)
+	meet := nothing(func(l *lines.Line) { l.Meet(':') })
+	check(t, meet, ":", "", 0, api.OK)
+	check(t, meet, "::", "", 0, api.OK)
+	check(t, meet, "", "", 0, api.ErrSyntax)
+	check(t, meet, "a:", "", 0, api.ErrSyntax)
 	check(t, nothing(func(l *lines.Line) { l.Expect(0) }), "", "", 0, api.ErrSyntax)
 	check(t, nothing(func(l *lines.Line) { l.Expect(0) }), "\x00", "", 1, api.OK)
 	for text, want := range map[string]string{"": "end", "a": "name", ":": "colon", "_x": "name", "-": "", "1": "", "é": "", "\x00": "nul", " ": ""} {
@@ -62,6 +68,31 @@ func TestBytes(t *testing.T) {
 			}
 			return out
 		}, text, want, 0, api.OK)
+	}
+}
+
+// TestEnds holds the beginning of a line, which may make it a comment, and its
+// end.
+func TestEnds(t *testing.T) {
+	comment := func(l *lines.Line) string {
+		if l.Comment() {
+			return "comment"
+		}
+		return ""
+	}
+	for text, stands := range map[string]int{"": 0, "   ": 3, "#": 0, "# x": 0, "  #x ": 2} {
+		check(t, comment, text, "comment", stands, api.OK)
+	}
+	for text, stands := range map[string]int{"a": 0, "\t": 0, "  a#": 2, " \t#": 1, "\x00": 0} {
+		check(t, comment, text, "", stands, api.OK)
+	}
+	finish := nothing((*lines.Line).Finish)
+	for _, text := range []string{"", " ", "    "} {
+		check(t, finish, text, "", len(text), api.OK)
+		for _, more := range []string{"a", "#", "\t", "\x00", "]"} {
+			check(t, finish, text+more, "", len(text), api.ErrSyntax)
+			check(t, finish, text+more+" ", "", len(text), api.ErrSyntax)
+		}
 	}
 }
 
@@ -84,6 +115,14 @@ func TestTokens(t *testing.T) {
 	check(t, name, long+"1 ", "", 16, api.ErrToken)
 	for _, text := range []string{"", " ", "1", "\"a", "é"} {
 		check(t, name, text, "", 0, api.ErrSyntax)
+	}
+	bare := (*lines.Line).Bare
+	check(t, bare, "a.b", "a", 0, api.OK)
+	check(t, bare, "_b-1 ", "_b-1", 3, api.OK)
+	check(t, bare, long+".", long, 15, api.OK)
+	check(t, bare, long+"1.", "", 16, api.ErrToken)
+	for _, text := range []string{"", " ", "1", ".a", "\"a", "é"} {
+		check(t, bare, text, "", 0, api.ErrSyntax)
 	}
 	for _, l := range append(texts.Numbers(), texts.LongNumbers()...) {
 		check(t, number, l.Text, l.Want, len(l.Text)-1, api.OK)
@@ -139,6 +178,41 @@ func TestParts(t *testing.T) {
 	for _, text := range []string{",", " ,", "a,,", "a, ,", "a,]", "a, ]", "a b", "a}", "a;", "1", "a,1", "a\t"} {
 		check(t, parts, text, "", len(text)-1, api.ErrSyntax)
 		check(t, parts, text+"]", "", len(text)-1, api.ErrSyntax)
+	}
+}
+
+// value reads a value whose fields are of names, each with a colon behind it.
+func value(l *lines.Line) {
+	read := func() { value(l) }
+	l.Value(read, func() {
+		l.Last(api.Event{Kind: api.Key, Text: l.Name()})
+		l.Expect(':')
+		read()
+	})
+}
+
+// TestValue holds values, the byte at which each of their events is reported, and
+// what is none.
+func TestValue(t *testing.T) {
+	for _, l := range []struct {
+		text, want string
+		e          api.Errno
+		at         int
+	}{
+		{"true", "true", api.OK, 4}, {"false", "false", api.OK, 5}, {"-1.50", "-15e-1", api.OK, 5}, {`"a\n"`, `"a\n"`, api.OK, 5}, {"[]", "[ ]", api.OK, 2}, {"{  }", "{ }", api.OK, 4},
+		{`[ 1 , {a:[true],b:"x"}]`, `[ 1 { "a": [ true ] "b": "x" } ]`, api.OK, 23},
+		{"\n", "", api.ErrSyntax, 0}, {"[\n", "[", api.ErrSyntax, 1}, {"x", "", api.ErrSyntax, 0}, {"null", "", api.ErrSyntax, 0}, {"]", "", api.ErrSyntax, 0}, {"tru", "", api.ErrSyntax, 3}, {"fx", "", api.ErrSyntax, 1}, {"-", "", api.ErrSyntax, 1}, {"1e1000]", "", api.ErrNumber, 6}, {`"\x"`, "", api.ErrEscape, 2},
+		{"[1", "[ 1", api.ErrSyntax, 2}, {"[1}", "[ 1", api.ErrSyntax, 2}, {"[1,]", "[ 1", api.ErrSyntax, 3}, {"{1", "{", api.ErrSyntax, 1}, {"{a]", `{ "a":`, api.ErrSyntax, 2}, {"{a:1]", `{ "a": 1`, api.ErrSyntax, 4},
+		{"[[[[[[[", "[ [ [ [ [ [", api.ErrDepth, 6}, {"[[[[[[{}", "[ [ [ [ [ [", api.ErrDepth, 6}, {"{ab:1,ab:2}", `{ "ab": 1`, api.ErrTwice, 7},
+	} {
+		got, e, at := decode(&parser{parse: value}, l.text)
+		if checks.Written(got) != l.want || e != l.e || at != l.at {
+			t.Errorf("%q: %s, %v at %d", l.text, checks.Written(got), e, at)
+		}
+	}
+	got, e, at := decode(&parser{parse: func(l *lines.Line) { value(l); l.Finish() }}, "truex") // words end with their last byte
+	if checks.Written(got) != "true" || e != api.ErrSyntax || at != 4 {
+		t.Error(got, e, at)
 	}
 }
 

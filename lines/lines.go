@@ -20,11 +20,15 @@ type Parser interface {
 // Machine is the state machine of a syntax whose lines a Parser parses.
 type Machine struct {
 	parser Parser
+	others []func(api.Event) api.Errno
 	open   []byte // the bytes of the line that has not ended
 }
 
-// New returns a machine for one text.
-func New(p Parser) *Machine { return &Machine{parser: p} }
+// New returns a machine for one text. For others, which are asked of all events
+// of the text, see stream.Out.
+func New(p Parser, others ...func(api.Event) api.Errno) *Machine {
+	return &Machine{parser: p, others: others}
+}
 
 // Step processes the next byte.
 func (m *Machine) Step(b byte, out *stream.Out) api.Errno {
@@ -40,9 +44,13 @@ func (m *Machine) Step(b byte, out *stream.Out) api.Errno {
 
 // endLine examines the open line.
 func (m *Machine) endLine(out *stream.Out) api.Errno {
-	l := &Line{Text: string(m.open), out: out}
+	l := m.line(string(m.open), out)
 	m.open = m.open[:0]
 	return l.examine(m.parser.Parse)
+}
+
+func (m *Machine) line(text string, out *stream.Out) *Line {
+	return &Line{Text: text, out: out, others: m.others}
 }
 
 // End processes the end of the text.
@@ -52,5 +60,5 @@ func (m *Machine) End(out *stream.Out) api.Errno {
 			return e
 		}
 	}
-	return (&Line{out: out}).examine(m.parser.End)
+	return m.line("", out).examine(m.parser.End)
 }

@@ -6,6 +6,7 @@ import (
 	"testing"
 
 	"hexapla/api"
+	"hexapla/checks"
 	"hexapla/lines"
 	"hexapla/stream"
 )
@@ -35,8 +36,8 @@ func (p *parser) End(l *lines.Line) {
 // null is an event that a document may have alone.
 var null = api.Event{Kind: api.Null}
 
-func decode(p *parser, text string) ([]api.Event, api.Errno, int) {
-	return stream.Decode(lines.New(p), []byte(text))
+func decode(p *parser, text string, others ...func(api.Event) api.Errno) ([]api.Event, api.Errno, int) {
+	return stream.Decode(lines.New(p, others...), []byte(text))
 }
 
 func TestLines(t *testing.T) {
@@ -104,30 +105,55 @@ func TestWhenRead(t *testing.T) {
 
 // TestTell holds events of lines and of the end, and those that are refused.
 func TestTell(t *testing.T) {
-	refuse := func(x api.Event) api.Errno { return api.ErrAnchorSpace }
-	tell := func(kind int, others ...func(api.Event) api.Errno) func(l *lines.Line) {
+	tell := func(kind int) func(l *lines.Line) {
 		return func(l *lines.Line) {
 			l.At = min(1, len(l.Text))
-			l.Tell(api.Event{Kind: kind}, others...)
+			l.Tell(api.Event{Kind: kind})
 		}
 	}
+	refuse := func(x api.Event) api.Errno { return api.ErrAnchorSpace }
+	refuseEnd := func(x api.Event) api.Errno {
+		if x.Kind == api.EndList {
+			return api.ErrExpand
+		}
+		return api.OK
+	}
+	list := []api.Event{{Kind: api.List}}
 	for _, l := range []struct {
 		text       string
 		parse, end func(l *lines.Line)
+		others     []func(api.Event) api.Errno
 		told       []api.Event
 		e          api.Errno
 		at         int
 	}{
-		{"ab\n", tell(api.List), tell(api.EndList), []api.Event{{Kind: api.List}, {Kind: api.EndList}}, api.OK, 3},
-		{"ab\ncd\n", tell(api.List), tell(api.EndMap), []api.Event{{Kind: api.List}, {Kind: api.List}}, api.ErrEvents, 6},
-		{"ab\ncd\n", tell(api.Null), nil, []api.Event{null}, api.ErrEvents, 4},
-		{"ab\ncd", tell(api.Null), nil, []api.Event{null}, api.ErrEvents, 4},
-		{"ab\ncd", tell(api.List, refuse), nil, nil, api.ErrAnchorSpace, 1},
-		{"ab\n", nil, tell(api.Null, refuse), nil, api.ErrAnchorSpace, 3},
+		{"ab\n", tell(api.List), tell(api.EndList), nil, []api.Event{{Kind: api.List}, {Kind: api.EndList}}, api.OK, 3},
+		{"ab\ncd\n", tell(api.List), tell(api.EndMap), nil, append(list, list...), api.ErrEvents, 6},
+		{"ab\ncd\n", tell(api.Null), nil, nil, []api.Event{null}, api.ErrEvents, 4},
+		{"ab\ncd", tell(api.Null), nil, nil, []api.Event{null}, api.ErrEvents, 4},
+		{"ab\ncd", tell(api.List), nil, []func(api.Event) api.Errno{refuse}, nil, api.ErrAnchorSpace, 1},
+		{"ab\n", nil, tell(api.Null), []func(api.Event) api.Errno{refuse}, nil, api.ErrAnchorSpace, 3},
+		{"ab", tell(api.List), tell(api.EndList), []func(api.Event) api.Errno{refuseEnd, refuse}, nil, api.ErrAnchorSpace, 1},
+		{"ab", tell(api.List), tell(api.EndList), []func(api.Event) api.Errno{refuseEnd, refuseEnd}, list, api.ErrExpand, 2},
+		{"ab", tell(api.List), tell(api.EndMap), []func(api.Event) api.Errno{refuseEnd}, list, api.ErrEvents, 2},
 	} {
-		if got, e, at := decode(&parser{parse: l.parse, end: l.end}, l.text); !slices.Equal(got, l.told) || e != l.e || at != l.at {
+		if got, e, at := decode(&parser{parse: l.parse, end: l.end}, l.text, l.others...); !slices.Equal(got, l.told) || e != l.e || at != l.at {
 			t.Errorf("%q: %v %v %d", l.text, got, e, at)
 		}
+	}
+}
+
+// TestLast holds that an event is told at a byte, which is read then.
+func TestLast(t *testing.T) {
+	read := ""
+	got, e, at := decode(&parser{parse: func(l *lines.Line) {
+		l.Last(api.Event{Kind: api.List})
+		l.Last(api.Event{Kind: api.EndList})
+		read = l.Text[l.At:]
+		l.Last(null) // behind a document
+	}}, "abcd")
+	if checks.Written(got) != "[ ]" || read != "cd" || e != api.ErrEvents || at != 2 {
+		t.Error(got, read, e, at)
 	}
 }
 

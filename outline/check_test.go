@@ -18,8 +18,7 @@ func lines(l ...string) string { return strings.Join(l, "\n") }
 // good holds the events of a text without errors, also with a newline behind it.
 func good(t *testing.T, text, want string) {
 	t.Helper()
-	syntax.CheckOK(t, text, want)
-	syntax.Whole(t, text+"\n", want, api.OK, len(text)+1)
+	syntax.CheckLines(t, text, want)
 }
 
 // last holds the events of texts whose error is met at their last byte.
@@ -35,8 +34,6 @@ func last(t *testing.T, want string, e api.Errno, texts ...string) {
 func open(t *testing.T, want string, texts ...string) {
 	t.Helper()
 	for _, text := range texts {
-		syntax.CheckOpen(t, text, want)
-		syntax.Check(t, text+"\n", want, api.ErrSyntax, len(text))
-		syntax.Check(t, text+"\n- 1\n", want, api.ErrSyntax, len(text))
+		syntax.CheckOpenLine(t, text, "- 1", want)
 	}
 }

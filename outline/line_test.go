@@ -5,6 +5,7 @@ import (
 	"testing"
 
 	"hexapla/api"
+	"hexapla/texts"
 )
 
 // TestComments holds lines that have no meaning, wherever they stand.
@@ -38,22 +39,12 @@ func TestNoValue(t *testing.T) {
 	}
 }
 
-// TestCharacters holds bytes that form no characters: they come ahead of all
-// else in their line.
-func TestCharacters(t *testing.T) {
-	for _, ahead := range []string{"", "- ", "x", "\"", "# é", "1 2 ", "é", "    ", "a: &k *k", "\"\\x", "{", strings.Repeat("#", 156)} {
-		for _, bytes := range []string{"\xff", "\x80", "\xc0", "\xf5", "\xc3\xc3", "\xc3a", "\xe2\x82 ", "\xed\xa0", "\xf0\x9f\x98\"", "\xc3\n", "\xe2\x82\n", "\xf0\x9f\x98\n"} {
-			last(t, "", api.ErrUTF, ahead+bytes)
-			last(t, "[ 1", api.ErrUTF, "- 1\n"+ahead+bytes)
-			last(t, `{ "a": { "b":`, api.ErrUTF, "a:\n  b:\n"+ahead+bytes) // nothing is ended, either
-		}
-		for _, bytes := range []string{"\xc3", "\xe2", "\xe2\x82", "\xf0\x9f\x98"} {
-			syntax.Check(t, ahead+bytes, "", api.ErrUTF, len(ahead+bytes))
-			syntax.Check(t, "- 1\n"+ahead+bytes, "[ 1", api.ErrUTF, len("- 1\n"+ahead+bytes))
-			syntax.Check(t, "a:\n  b:\n"+ahead+bytes, `{ "a": { "b":`, api.ErrUTF, len("a:\n  b:\n"+ahead+bytes))
-		}
+// TestFirst holds that bytes that form no characters, and the length of a line,
+// come ahead of all else in it.
+func TestFirst(t *testing.T) {
+	for _, ahead := range []texts.Pair{{Text: "", Want: ""}, {Text: "1\n", Want: "1"}, {Text: "- 1\n", Want: "[ 1"}, {Text: "a:\n  b:\n", Want: `{ "a": { "b":`}} {
+		syntax.NoLines(t, ahead, "", "- ", "x", "\"", "# é", "1 2 ", "é", "    ", "a: &k *k", "\"\\x", "{", "-", ": *abc \"", strings.Repeat("#", 156))
 	}
-	last(t, "1", api.ErrUTF, "1\n\xff", "1\n2\xff") // behind a complete value, too
 	syntax.Check(t, "- x\n\xff", "[", api.ErrSyntax, 2)
 }
 
@@ -79,29 +70,6 @@ func TestLength(t *testing.T) {
 		syntax.CheckOpen(t, filled(160, "", more, ""), "")
 		last(t, "", api.ErrToken, filled(160, "", more, "")+" ")
 	}
-}
-
-// TestTooLong holds that a line that is too long is refused at its byte, ahead of
-// all else in it but what is no character.
-func TestTooLong(t *testing.T) {
-	x := strings.Repeat("x", 160)
-	for _, line := range []string{x, strings.Repeat("[", 160), strings.Repeat("1", 160), `"` + x[:159], "\t" + x[:159], " " + x[:159], strings.Repeat("-", 160), x[:158] + "é", x[:152] + ": *abc \""} {
-		for _, more := range []string{"x", " ", "\t", "#", "\"", "\x00"} {
-			last(t, "", api.ErrToken, line+more)
-			last(t, "[ 1", api.ErrToken, "- 1\n"+line+more)
-			last(t, `{ "a": { "b":`, api.ErrToken, "a:\n  b:\n"+line+more)
-			last(t, "1", api.ErrToken, "1\n"+line+more)
-		}
-		last(t, "[ 1", api.ErrUTF, "- 1\n"+line+"\xff")                    // both at one byte
-		syntax.Check(t, "- 1\n"+line+"\xc3\xa9", "[ 1", api.ErrToken, 164) // a whole one
-		syntax.Check(t, "- 1\n"+line+"\xc3", "[ 1", api.ErrToken, 164)
-		syntax.Check(t, "- 1\n"+line+"x\xff", "[ 1", api.ErrToken, 164)
-		last(t, "[ 1", api.ErrUTF, "- 1\n"+line[:159]+"\xff")
-	}
-	x = x[:159]
-	syntax.Check(t, "- 1\n"+x+"\xc3\xa9", "[ 1", api.ErrToken, 164) // within a character
-	syntax.Check(t, "- 1\n"+x+"\xc3", "[ 1", api.ErrUTF, 164)
-	last(t, "[ 1", api.ErrUTF, "- 1\n"+x+"\xc3\n", "- 1\n"+x+"\xc3\xc3")
 }
 
 // TestBehindValue holds what follows the value of a text that is not a block.

@@ -27,22 +27,11 @@ func room(left int) (string, string) {
 func cost(x api.Event) int { return len(x.Text) + 1 }
 
 // placed holds at which bytes the events of lines are reported, by letting each
-// of them be the first one for which there is no room. The lines stand in a list;
-// each event is reported at the byte behind a ^, of which there is one for each.
+// of them be the first one for which there is no room. The lines stand in a list.
+// For marked see checks.Placed.
 func placed(t *testing.T, marked, written string) {
 	t.Helper()
-	events := checks.Events(written)
-	var places []int
-	text := ""
-	for i, piece := range strings.Split(marked, "^") {
-		if i > 0 {
-			places = append(places, len(text))
-		}
-		text += piece
-	}
-	if len(places) != len(events) {
-		t.Fatalf("%q: %d places for %d events", marked, len(places), len(events))
-	}
+	text, events, places := checks.Placed(t, marked, written)
 	left := 0
 	for i, x := range events {
 		ahead, told := room(left)

@@ -14,6 +14,9 @@ type Number struct{ open }
 // Name is an open local name, in the same way.
 type Name struct{ open }
 
+// Bare is an open local name without a dot, in the same way.
+type Bare struct{ Name }
+
 // open are the bytes of an open token.
 type open struct{ text string }
 
@@ -72,6 +75,10 @@ func (n *Name) End() (string, api.Errno) {
 	}
 	return text, api.OK
 }
+
+// Goes reports whether some local name without a dot, of any length, goes on
+// with b.
+func (n *Bare) Goes(b byte) bool { return b != '.' && n.Name.Goes(b) }
 
 // Blank reports whether b is one of the four blanks.
 func Blank(b byte) bool { return b == ' ' || b == '\t' || b == '\n' || b == '\r' }

@@ -140,6 +140,21 @@ func TestNamesInRow(t *testing.T) {
 	}
 }
 
+// TestBare holds that a bare name is one that ends ahead of a dot.
+func TestBare(t *testing.T) {
+	long := strings.Repeat("n", 16)
+	for _, name := range []string{"a", "_", "a1-_Z", "a.b", "a.", "b..c", "a1.5", long, long + ".x", long + "x.", strings.Repeat("n", 17), "", ".", ".a", "1", "-", "é"} {
+		for _, more := range []string{"", ".", " ", "=", "\""} {
+			text := name + more
+			head, _, _ := strings.Cut(text, ".")
+			wantLength, want, wantE := read(&token.Name{}, head)
+			if length, got, e := read(&token.Bare{}, text); length != wantLength || got != want || e != wantE {
+				t.Errorf("%q: %d %q %v", text, length, got, e)
+			}
+		}
+	}
+}
+
 // TestAllBytes holds all bytes that a name may begin or go on with.
 func TestAllBytes(t *testing.T) {
 	for b := range 256 {
@@ -155,6 +170,9 @@ func TestAllBytes(t *testing.T) {
 			}
 			if got := n.Goes(byte(b)); got != names.Local("a"+text) {
 				t.Errorf("%s, %d: %v", begin, b, got)
+			}
+			if got := (&token.Bare{Name: n}).Goes(byte(b)); got != (b != '.' && names.Local("a"+text)) {
+				t.Errorf("%s without a dot, %d: %v", begin, b, got)
 			}
 		}
 	}
