@@ -11,6 +11,7 @@ import (
 	"hexapla/checks"
 	"hexapla/events"
 	"hexapla/names"
+	"hexapla/texts"
 )
 
 // history is a model of an Anchors: it keeps which calls were accepted, and asks
@@ -130,24 +131,21 @@ func (b *both) call(t *testing.T, call string) api.Errno {
 	return e
 }
 
-// checkAll makes all rows of at most n calls behind these ones.
-func checkAll(t *testing.T, calls, made []string, n int) {
-	b := newBoth()
-	for _, call := range made {
-		b.call(t, call)
-	}
-	if n == 0 {
-		return
-	}
-	for _, call := range calls {
-		checkAll(t, calls, append(slices.Clone(made), call), n-1)
+// checkAll makes all rows of at most n calls, behind those made ahead of each.
+func checkAll(t *testing.T, n int, ahead []string, calls ...string) {
+	t.Helper()
+	for row := range texts.Lists(n, calls...) {
+		b := newBoth()
+		for _, call := range slices.Concat(ahead, row) {
+			b.call(t, call)
+		}
 	}
 }
 
 func TestAllCalls(t *testing.T) {
-	checkAll(t, []string{"+a", "+b", "null", "[", "]", `"x"`, "=a", "=b"}, nil, 5)
-	checkAll(t, []string{"+b", "+a", "{", `"k":`, "1", "}", "=a"}, []string{"+c", "{", `"k":`}, 4)
-	checkAll(t, []string{"+b", "+a", "<e", `@a="v"`, `"x"`, ">", "=a"}, []string{"+c", "<e"}, 4)
+	checkAll(t, 5, nil, "+a", "+b", "null", "[", "]", `"x"`, "=a", "=b")
+	checkAll(t, 4, []string{"+c", "{", `"k":`}, "+b", "+a", "{", `"k":`, "1", "}", "=a")
+	checkAll(t, 4, []string{"+c", "<e"}, "+b", "+a", "<e", `@a="v"`, `"x"`, ">", "=a")
 }
 
 // random returns a call, which gets something as often as the number says.

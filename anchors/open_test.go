@@ -25,10 +25,7 @@ func TestNothing(t *testing.T) {
 }
 
 // noNames are texts that are no local names.
-var noNames = []string{
-	"", "1", "-", ".", "-a", ".a", "a b", " a", "a ", "a\n", "a\x00", "a:b", "{u}a", "*a", "&a", "é", "aé", "\xff", "a\xff",
-	strings.Repeat("n", 17), strings.Repeat("n", 200), strings.Repeat("n", 201), strings.Repeat("n", 100000),
-}
+var noNames = texts.NoNames()
 
 func TestNames(t *testing.T) {
 	for _, name := range []string{"a", "Z", "_", "a1", "A1-._", "a-", "a.", "__", strings.Repeat("n", 16)} {

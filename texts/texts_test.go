@@ -41,3 +41,14 @@ func TestRows(t *testing.T) {
 		t.Errorf("%q", got)
 	}
 }
+
+func TestLists(t *testing.T) {
+	var got [][]string
+	for list := range texts.Lists(2, "ab", "") {
+		got = append(got, list)
+	}
+	want := [][]string{nil, {"ab"}, {"ab", "ab"}, {"ab", ""}, {""}, {"", "ab"}, {"", ""}}
+	if !slices.EqualFunc(got, want, slices.Equal) {
+		t.Errorf("%q", got)
+	}
+}

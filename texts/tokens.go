@@ -168,6 +168,14 @@ func CutCharacters() []string {
 	return []string{"\xc3", "\xe2", "\xe2\x82", "\xf0", "\xf0\x9f", "\xf0\x9f\x98"}
 }
 
+// NoNames returns texts that are no local names.
+func NoNames() []string {
+	return []string{
+		"", "1", "-", ".", "-a", ".a", "a b", " a", "a ", "a\n", "a\x00", "a:b", "a:", ":a", "{u}a", "*a", "&a", "a;", "é", "aé", "\xff", "a\xff",
+		strings.Repeat("n", 17), strings.Repeat("n", 200), strings.Repeat("n", 201), strings.Repeat("n", 100000),
+	}
+}
+
 // RandomNumber returns a number, or now and then one that is too long or that
 // num.Read refuses. For pick see Spoiled.
 func RandomNumber(pick func(n int) int) string {

@@ -7,6 +7,7 @@ import (
 	"unicode/utf8"
 
 	"hexapla/api"
+	"hexapla/names"
 	"hexapla/num"
 	"hexapla/quote"
 	"hexapla/src"
@@ -105,6 +106,14 @@ func TestCutCharacters(t *testing.T) {
 		}
 		if scan.Whole() {
 			t.Errorf("%q", bytes)
+		}
+	}
+}
+
+func TestNoNames(t *testing.T) {
+	for _, text := range texts.NoNames() {
+		if names.Local(text) {
+			t.Errorf("%q", text)
 		}
 	}
 }
