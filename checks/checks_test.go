@@ -114,6 +114,7 @@ func all(s checks.Syntax) func(t checks.T) {
 		s.FedBehind(t, "[1,]", "", "]", "\xff")
 		s.NoNumbers(t, texts.Pair{Text: "[", Want: "["}, " ", "x")
 		s.NoStrings(t, texts.Pair{Text: "[", Want: "["})
+		s.Following(t, texts.Pair{Text: `{"a"`, Want: `{ "a":`}, ": \t\n\r")
 	}
 }
 
@@ -147,6 +148,10 @@ func TestWanted(t *testing.T) {
 		"numbers":        func(t checks.T) { right.NoNumbers(t, texts.Pair{Text: "[", Want: "["}, "1") },
 		"no numbers":     func(t checks.T) { right.NoNumbers(t, texts.Pair{Text: "[", Want: ""}) },
 		"no strings":     func(t checks.T) { right.NoStrings(t, texts.Pair{Text: "[", Want: ""}) },
+		"following":      func(t checks.T) { right.Following(t, texts.Pair{Text: `{"a"`, Want: `{ "a":`}, ": \t\n") },
+		"not following":  func(t checks.T) { right.Following(t, texts.Pair{Text: `{"a"`, Want: `{ "a":`}, ": \t\n\r,") },
+		"not beginning":  func(t checks.T) { right.Following(t, texts.Pair{Text: `{"a"`, Want: `{ "a":`}, ": \t\n\r\xc3") },
+		"in a string":    func(t checks.T) { right.Following(t, texts.Pair{Text: `"\`}, `"\/ntrbfu`) }, // which is another error
 		"behind":         func(t checks.T) { right.Pieces(t, []string{"[1"}, false, right.Read(t, "[1]")) },
 	} {
 		expect(t, name, true, check)

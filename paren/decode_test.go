@@ -125,22 +125,11 @@ var follows = []struct{ text, want, may string }{
 // may follow.
 func TestFollows(t *testing.T) {
 	for _, l := range follows {
-		for b := range byte(0x80) {
-			next := string([]byte{b})
-			if strings.Contains(l.may, next) {
-				if r := syntax.Read(t, l.text+next); r.Err != api.OK && (r.Err != api.ErrSyntax || r.At != len(l.text)+1) {
-					t.Errorf("%q: %s", l.text+next, r.Written())
-				}
-				continue
+		syntax.Following(t, texts.Pair{Text: l.text, Want: l.want}, l.may)
+		if strings.Contains(l.may, ";") {
+			for _, blank := range []string{" ", ";\n", ";x\n"} {
+				syntax.Following(t, texts.Pair{Text: l.text + blank, Want: l.want}, l.may)
 			}
-			syntax.CheckLast(t, l.text+next, l.want, api.ErrSyntax)
-			if strings.Contains(l.may, ";") {
-				syntax.CheckLast(t, l.text+" "+next, l.want, api.ErrSyntax)
-				syntax.CheckLast(t, l.text+";"+next[:b&1]+"\n"+next, l.want, api.ErrSyntax)
-			}
-		}
-		for _, next := range []string{"\xc3", "\xe2", "\xf0"} { // the bytes with which a character begins
-			syntax.CheckLast(t, l.text+next, l.want, api.ErrSyntax)
 		}
 	}
 }
