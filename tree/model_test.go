@@ -11,6 +11,7 @@ import (
 	"hexapla/names"
 	"hexapla/num"
 	"hexapla/tree"
+	"hexapla/trees"
 )
 
 // fault returns the first error of a node that stands where a value must, within
@@ -124,21 +125,15 @@ var labels = []api.Node{
 // rows returns all rows of nodes of these labels that have n nodes in all, with
 // what is below them.
 func rows(labels []api.Node, n int) [][]api.Node {
-	if n == 0 {
-		return [][]api.Node{nil}
-	}
-	var out [][]api.Node
-	for first := 1; first <= n; first++ {
-		rest := rows(labels, n-first)
-		for _, kids := range rows(labels, first-1) {
+	return trees.Rows(n, func(n int) []api.Node {
+		var out []api.Node
+		for _, kids := range rows(labels, n-1) {
 			for _, label := range labels {
-				for _, others := range rest {
-					out = append(out, append([]api.Node{with(label, kids...)}, others...))
-				}
+				out = append(out, with(label, kids...))
 			}
 		}
-	}
-	return out
+		return out
+	})
 }
 
 // TestAllNodes holds the errors of all nodes of at most four nodes.

@@ -8,6 +8,7 @@ import (
 	"hexapla/api"
 	"hexapla/events"
 	"hexapla/tree"
+	"hexapla/trees"
 )
 
 // Nodes that may stand in a tree, a Bool among them for all scalars that are no
@@ -73,20 +74,7 @@ func inMap(n api.Node) api.Node { return object(key("a", n)) }
 func inElem(n api.Node) api.Node { return elem("e", n) }
 
 // written writes a node, the same only for the same nodes.
-func written(n api.Node) string {
-	var b strings.Builder
-	write(&b, n)
-	return b.String()
-}
-
-func write(b *strings.Builder, n api.Node) {
-	b.WriteString(writtenEvent(api.Event{Kind: n.Kind, Text: n.Text, Val: n.Val}))
-	b.WriteString("(")
-	for _, kid := range n.Kids {
-		write(b, kid)
-	}
-	b.WriteString(")")
-}
+func written(n api.Node) string { return trees.Written(n) }
 
 func writtenEvent(x api.Event) string {
 	return strconv.Itoa(x.Kind) + strconv.Quote(x.Text) + strconv.Quote(x.Val)
