@@ -8,7 +8,6 @@ import (
 
 	"hexapla/api"
 	"hexapla/checks"
-	"hexapla/tree"
 	"hexapla/trees"
 )
 
@@ -120,30 +119,6 @@ func (m maker) rows() api.Node {
 	return n
 }
 
-// spoiled returns n with another value, or none, or two, in place of one, or n if
-// that is no tree.
-func (m maker) spoiled(n api.Node) api.Node {
-	spots := trees.Spots(n)
-	s := spots[m.Pick(len(spots))]
-	if len(s.Place) == 0 {
-		return n
-	}
-	kid := s.Node()
-	switch {
-	case m.Rare(3) && len(m.Attrs) > 0 && kid.Kind == api.Attr:
-		kid = m.Attrs[m.Pick(len(m.Attrs))]
-	case kid.Kind == api.Key, kid.Kind == api.Elem:
-		kid.Text = trees.Some(m.Maker, 1, append(m.Keys, m.Elems...))[0]
-	default:
-		kid = m.Value(len(s.Place))
-	}
-	list := [][]api.Node{{kid}, {kid}, nil, {kid, s.Node()}}
-	if less := trees.Put(n, s.Place, list[m.Pick(4)]...); tree.May(less) == api.OK {
-		return less
-	}
-	return n
-}
-
 // wordsFor returns what trees for a syntax are made of, among it what lets lines
 // be of about the length that they may have.
 func wordsFor(syntax int) trees.Words {
@@ -180,7 +155,7 @@ func TestRandom(t *testing.T) {
 		for range 1500 {
 			n := whole.tree(syntax)
 			for range r.Intn(3) {
-				n = spoiling.spoiled(n)
+				n = spoiling.Spoiled(n)
 			}
 			c.check(t, n, syntaxes)
 		}

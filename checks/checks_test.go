@@ -11,13 +11,6 @@ import (
 	"hexapla/texts"
 )
 
-// counter is told of faults, and counts them.
-type counter struct{ faults int }
-
-func (c *counter) Helper()      {}
-func (c *counter) Error(...any) { c.faults++ }
-func (c *counter) Fatal(...any) { c.faults++ }
-
 // right is a syntax without faults.
 var right = checks.Syntax{New: func() checks.Decoder { return brace.New() }, Decode: brace.Decode}
 
@@ -80,13 +73,9 @@ func decoding(decode func(text []byte) ([]api.Event, api.Errno, int)) checks.Syn
 	return checks.Syntax{New: right.New, Decode: decode}
 }
 
-// expect runs a check, and holds whether it finds a fault.
 func expect(t *testing.T, name string, faulty bool, check func(t checks.T)) {
 	t.Helper()
-	c := &counter{}
-	if check(c); (c.faults > 0) != faulty {
-		t.Errorf("%s: %d faults", name, c.faults)
-	}
+	checks.Expect(t, name, faulty, check)
 }
 
 // pieces holds a text with events, and one with an error.

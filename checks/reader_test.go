@@ -76,7 +76,7 @@ func TestAgainst(t *testing.T) {
 		expect(t, text, faulty, func(t checks.T) { right.Against(t, text, scalar) })
 		expect(t, text, faulty, func(t checks.T) { right.AgainstCut(t, text, scalar, pick) })
 	}
-	c := &counter{}
+	c := new(checks.Faults)
 	if e := right.Against(c, "1e1000", scalar); e != api.ErrNumber {
 		t.Error(e)
 	}

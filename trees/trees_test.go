@@ -189,3 +189,26 @@ func TestMaker(t *testing.T) {
 		t.Error(l)
 	}
 }
+
+// TestSpoiled holds which changes are made, and that trees come of all of them.
+func TestSpoiled(t *testing.T) {
+	w := trees.Words{Scalars: trees.Read(`[ 1 "x" ]`).Kids, Keys: []string{"a", "b"}, Elems: []string{"e", "f"}, Attrs: trees.Read(`<e @k="" @l="" >`).Kids}
+	for of, want := range map[string][]string{
+		"null":                    {"null"},
+		"[ null ]":                {"[ null ]", "[ 1 ]", `[ "x" ]`, "[ ]", "[ 1 null ]", "[ [ ] ]", "[ { } ]", "[ <e > ]"},
+		`{ "a": 1 }`:              {`{ "a": 1 }`, `{ "b": 1 }`, `{ "b": 1 "a": 1 }`, `{ "e": 1 }`, "{ }", `{ "a": "x" }`, `{ "a": [ ] }`},
+		`<e @k="" "x" <f > >`:     {`<e @k="" "x" <f > >`, `<e @l="" "x" <f > >`, `<e "x" <f > >`, `<e @k="" <f > >`, `<e @k="" "x" >`, `<e @k="" "x" <e > >`, `<e @k="" "x" <f > <f > >`},
+		`[ { "a": [ 1 ] } <f > ]`: {`[ { "a": [ "x" ] } <f > ]`, `[ { "b": [ 1 ] } <f > ]`, `[ { "a": [ 1 ] } <e > ]`, `[ <f > ]`, `[ { "a": [ ] } <f > ]`},
+	} {
+		m := trees.Maker{Words: w, Pick: rand.New(rand.NewSource(2)).Intn}
+		seen := map[string]int{}
+		for range 5000 {
+			seen[written(t, m.Spoiled(trees.Read(of)))]++
+		}
+		for _, w := range want {
+			if seen[w] == 0 {
+				t.Error(of, "never becomes", w)
+			}
+		}
+	}
+}

@@ -184,3 +184,31 @@ func endsWith(n api.Node) int {
 	}
 	return n.Kids[len(n.Kids)-1].Kind
 }
+
+// Spoiled returns n with another node in place of one below the root, or with
+// none or two there, or n itself if that is no tree.
+func (m Maker) Spoiled(n api.Node) api.Node {
+	s := one(m, Spots(n))
+	if len(s.Place) == 0 {
+		return n
+	}
+	kid := m.other(s)
+	put := one(m, [][]api.Node{{kid}, {kid}, nil, {kid, s.Node()}})
+	if spoiled := Put(n, s.Place, put...); tree.May(spoiled) == api.OK {
+		return spoiled
+	}
+	return n
+}
+
+// other returns what may stand in place of a node.
+func (m Maker) other(s Spot) api.Node {
+	n := s.Node()
+	switch {
+	case n.Kind == api.Attr && len(m.Attrs) > 0 && m.Rare(3):
+		return one(m, m.Attrs)
+	case n.Kind == api.Key, n.Kind == api.Elem:
+		n.Text = one(m, slices.Concat(m.Keys, m.Elems))
+		return n
+	}
+	return m.Value(len(s.Place))
+}
