@@ -9,6 +9,7 @@ import (
 
 	"hexapla/api"
 	"hexapla/checks"
+	"hexapla/prints"
 	"hexapla/quote"
 	"hexapla/tree"
 	"hexapla/trees"
@@ -77,22 +78,6 @@ func TestRandom(t *testing.T) {
 	}
 }
 
-// outside returns what of a text is not within quoted strings.
-func outside(text string) string {
-	out := ""
-	for i, within := 0, false; i < len(text); i++ {
-		switch {
-		case within && text[i] == '\\':
-			i++
-		case text[i] == '"':
-			within = !within
-		case !within:
-			out += text[i : i+1]
-		}
-	}
-	return out
-}
-
 // TestJSON holds that what is printed is JSON, without blanks but those within
 // quoted strings.
 func TestJSON(t *testing.T) {
@@ -106,7 +91,7 @@ func TestJSON(t *testing.T) {
 		if fault := json.Compact(&compact, []byte(text)); fault != nil || compact.String() != text {
 			t.Errorf("%q: %v", text, fault)
 		}
-		if strings.ContainsAny(outside(text), " \t\n\r") || strings.ContainsAny(text, "\t\n\r") {
+		if strings.ContainsAny(prints.Outside(text), " \t\n\r") || strings.ContainsAny(text, "\t\n\r") {
 			t.Errorf("%q has blanks", text)
 		}
 		blanks += strings.Count(text, " ")

@@ -8,19 +8,12 @@ import (
 
 	"hexapla/api"
 	"hexapla/inkbrace"
+	"hexapla/texts"
 	"hexapla/trees"
 )
 
-// good holds the texts of trees that are written.
-func good(t *testing.T, texts map[string]string) {
-	t.Helper()
-	for written, want := range texts {
-		printer.Good(t, written, want)
-	}
-}
-
 func TestScalars(t *testing.T) {
-	good(t, map[string]string{"null": "null", "true": "true", "false": "false"})
+	printer.Goods(t, map[string]string{"null": "null", "true": "true", "false": "false"})
 	for _, form := range []string{"0", "1", "-1", "12", "1e1", "15e-1", "-15e-1", "1e999", "-1e-999", "123456789", times(30, "1"), "-" + times(29, "9")} {
 		printer.Good(t, form, form)
 	}
@@ -28,19 +21,15 @@ func TestScalars(t *testing.T) {
 
 // TestTexts holds texts and keys.
 func TestTexts(t *testing.T) {
-	for text, want := range map[string]string{
-		"": `""`, "x": `"x"`, "a b": `"a b"`, "  ": `"  "`, "null": `"null"`, "true": `"true"`, "12": `"12"`, "[1,{}]:": `"[1,{}]:"`, "'/": `"'/"`, "é€\U0001f600": "\"é€\U0001f600\"", "\x7f\u0080": "\"\x7f\u0080\"",
-		`"`: `"\""`, `\`: `"\\"`, "\n\t\r": `"\n\t\r"`, "\b\f": `"\u0008\u000c"`, "\x00\x01\x1f": `"\u0000\u0001\u001f"`, "a\"b\n": `"a\"b\n"`, `","`: `"\",\""`, `\u0041`: `"\\u0041"`,
-		times(48, "x"): `"` + times(48, "x") + `"`, times(24, "é"): `"` + times(24, "é") + `"`, times(48, "\x01"): `"` + times(48, `\u0001`) + `"`,
-	} {
-		quoted := strconv.Quote(text)
-		printer.Good(t, quoted, want)
-		printer.Good(t, "{ "+quoted+": [ "+quoted+" ] }", "{"+want+":["+want+"]}")
+	for _, l := range texts.Printed() {
+		quoted := strconv.Quote(l.Text)
+		printer.Good(t, quoted, l.Want)
+		printer.Good(t, "{ "+quoted+": [ "+quoted+" ] }", "{"+l.Want+":["+l.Want+"]}")
 	}
 }
 
 func TestLists(t *testing.T) {
-	good(t, map[string]string{
+	printer.Goods(t, map[string]string{
 		"[ ]": "[]", "[ null ]": "[null]", "[ 1 2 3 ]": "[1,2,3]", `[ null true false -15e-1 "a b" ]`: `[null,true,false,-15e-1,"a b"]`, `[ "" "" ]`: `["",""]`, `[ 1 1 ]`: "[1,1]",
 		"[ null true { } [ ] ]": "[null,true,{},[]]", "[ [ 1 ] 2 [ ] [ [ 3 4 ] ] ]": "[[1],2,[],[[3,4]]]", `[ { "a": 1 } { "a": 1 } ]`: `[{"a":1},{"a":1}]`,
 		"[ " + times(99, "1 ") + "2 ]": "[" + times(99, "1,") + "2]",
@@ -48,7 +37,7 @@ func TestLists(t *testing.T) {
 }
 
 func TestMaps(t *testing.T) {
-	good(t, map[string]string{
+	printer.Goods(t, map[string]string{
 		"{ }": "{}", `{ "a": null }`: `{"a":null}`, `{ "a": [ 1 "x" ] }`: `{"a":[1,"x"]}`, `{ "b": 1 "a": true "B": "a" }`: `{"b":1,"a":true,"B":"a"}`, `{ "a": { } "b": [ ] }`: `{"a":{},"b":[]}`,
 		`{ "a-_1": 1 "a.b": 2 "": 3 "a b": 4 "1": 5 "{u}a": 6 "é": 7 "null": 8 }`: `{"a-_1":1,"a.b":2,"":3,"a b":4,"1":5,"{u}a":6,"é":7,"null":8}`, `{ "\"": 1 "\n": 2 "\\": 3 }`: `{"\"":1,"\n":2,"\\":3}`,
 		`{ "a": { "a": { "b": 1 "a": 2 } "b": 3 } "b": 4 }`: `{"a":{"a":{"b":1,"a":2},"b":3},"b":4}`, `{ "a": [ { "a": [ ] } ] "b": [ { } ] }`: `{"a":[{"a":[]}],"b":[{}]}`,
@@ -68,10 +57,10 @@ func TestDeep(t *testing.T) {
 }
 
 // deep holds the texts of trees within n lists and maps.
-func deep(t *testing.T, n int, texts map[string]string) {
+func deep(t *testing.T, n int, values map[string]string) {
 	t.Helper()
-	for written, want := range texts {
-		good(t, map[string]string{
+	for written, want := range values {
+		printer.Goods(t, map[string]string{
 			times(n, "[ ") + written + times(n, " ]"):                      times(n, "[") + want + times(n, "]"),
 			times(n, `{ "k": `) + written + times(n, " }"):                 times(n, `{"k":`) + want + times(n, "}"),
 			times(n, "[ 0 ") + written + times(n, " 1 ]"):                  times(n, "[0,") + want + times(n, ",1]"),
@@ -93,7 +82,9 @@ func TestElems(t *testing.T) {
 func TestNoTrees(t *testing.T) { printer.NoTrees(t) }
 
 func TestApart(t *testing.T) {
-	printer.Apart(t, `[ 1 { "a": [ "x" ] "b": null } [ [ ] ] ]`, `[ 1 { "a": [ ^<e @k="v" "x" > ] } 2 ]`)
+	printer.Spare(t, `[ 1 { "a": [ "x" ] "b": null } [ [ ] ] ]`)
+	printer.Spare(t, `[ 1 { "a": [ <e @k="v" "x" > ] } 2 ]`)
+	printer.Apart(t, `[ 1 { "a": [ ^<e @k="v" "x" > ] } 2 ]`)
 	for _, written := range []string{"12345", "true", `"x"`} {
 		n := trees.Read(written)
 		if text, _, _ := inkbrace.Print(n); unsafe.StringData(text) == unsafe.StringData(n.Text) {
@@ -123,12 +114,6 @@ func TestNearlySame(t *testing.T) {
 		{`[ "a" "b" ]`, `[ "a,b" ]`, `[ "a\",\"b" ]`, `[ "ab" ]`, `[ "a" "b" "" ]`, `{ "a": "b" }`, `[ { "a": "b" } ]`},
 		{`{ "a": 1 "b": 2 }`, `{ "b": 2 "a": 1 }`, `{ "a": 2 "b": 2 }`, `{ "a": 1 "c": 2 }`, `{ "a": 1 "B": 2 }`, `{ "a": 1 }`, `{ "a": 1 "b": "2" }`, `{ "a": { "b": 2 } }`, `{ "a": [ 1 ] "b": 2 }`, `{ "a,b": 1 "": 2 }`, `{ "a\":1,\"b": 2 }`, `{ "a": 1 "b ": 2 }`},
 	} {
-		var nodes []api.Node
-		for _, written := range l {
-			nodes = append(nodes, trees.Read(written))
-		}
-		if got := printer.Distinct(t, model, nodes...); got != len(l) {
-			t.Error(l[0], got)
-		}
+		printer.Differ(t, model, l...)
 	}
 }

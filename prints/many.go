@@ -3,6 +3,7 @@ package prints
 import (
 	"slices"
 	"strconv"
+	"strings"
 
 	"hexapla/api"
 	"hexapla/checks"
@@ -31,6 +32,36 @@ func (p Printer) Distinct(t checks.T, model func(n api.Node) string, nodes ...ap
 	return len(seen)
 }
 
+// Differ holds that trees that are written so have different texts, and what a
+// model says of each.
+func (p Printer) Differ(t checks.T, model func(n api.Node) string, written ...string) {
+	t.Helper()
+	var nodes []api.Node
+	for _, w := range written {
+		nodes = append(nodes, trees.Read(w))
+	}
+	if got := p.Distinct(t, model, nodes...); got != len(written) {
+		t.Error(strconv.Itoa(got), "texts of", strconv.Itoa(len(written)), "trees:", written[0], "..")
+	}
+}
+
+// Outside returns what of a text is not within quoted strings: these are empty.
+func Outside(text string) string {
+	var out strings.Builder
+	for i, within := 0, false; i < len(text); i++ {
+		switch {
+		case within && text[i] == '\\':
+			i++
+		case text[i] == '"':
+			within = !within
+			out.WriteByte('"')
+		case !within:
+			out.WriteByte(text[i])
+		}
+	}
+	return out.String()
+}
+
 // Random holds trees that next makes, and those that differ from them in one
 // place, against a model, and that their texts differ, too. The texts are decoded
 // in pieces. It returns how many texts there were.
@@ -48,20 +79,23 @@ func (p Printer) Random(t checks.T, m trees.Maker, next func() api.Node, model f
 	return texts
 }
 
-// Apart holds that what lies behind the Kids of a tree stays as it is when that is
-// printed, and that a path is new memory: good is a tree that is written so, and
-// in marked, ^ is ahead of what cannot be represented, below the root.
-func (p Printer) Apart(t checks.T, good, marked string) {
+// Spare holds that what lies behind the Kids of a tree, which is written so, stays
+// as it is when that is printed.
+func (p Printer) Spare(t checks.T, written string) {
+	t.Helper()
+	n := roomy(trees.Read(written))
+	before := trees.Written(full(n))
+	p.Check(t, n)
+	if after := trees.Written(full(n)); after != before {
+		t.Error(before, "became", after)
+	}
+}
+
+// Apart holds that a path is new memory: ^ is ahead of what cannot be represented,
+// below the root.
+func (p Printer) Apart(t checks.T, marked string) {
 	t.Helper()
 	bad, place := trees.Marked(marked)
-	for _, n := range []api.Node{trees.Read(good), bad} {
-		n = roomy(n)
-		before := trees.Written(full(n))
-		p.Check(t, n)
-		if after := trees.Written(full(n)); after != before {
-			t.Error(before, "became", after)
-		}
-	}
 	_, first, _ := p.Print(bad)
 	_, second, _ := p.Print(bad)
 	for i := range first {

@@ -65,6 +65,14 @@ func (p Printer) Good(t checks.T, written, want string) {
 	}
 }
 
+// Goods holds the texts of trees, each beside what is written of it.
+func (p Printer) Goods(t checks.T, texts map[string]string) {
+	t.Helper()
+	for written, want := range texts {
+		p.Good(t, written, want)
+	}
+}
+
 // Bad holds because of which node trees are not printed: the one that is written
 // with a ^ ahead.
 func (p Printer) Bad(t checks.T, marked ...string) {
@@ -85,13 +93,19 @@ func (p Printer) refused(t checks.T, n api.Node, place []int, want api.Errno) {
 }
 
 // NoTrees holds the errors of nodes that are no trees, alone and beside others,
-// of which no syntax can represent all.
+// of which only the paren syntax can represent all.
 func (p Printer) NoTrees(t checks.T) {
 	t.Helper()
 	others := []api.Node{{Kind: api.Null}, {Kind: api.Elem, Text: "e"}, {Kind: api.Text, Text: "\x01"}}
 	for _, l := range trees.Wrongs() {
-		p.refused(t, l.Node, nil, l.Err)
-		p.refused(t, api.Node{Kind: api.List, Kids: append(slices.Clip(others), l.Node)}, nil, l.Err)
-		p.refused(t, api.Node{Kind: api.List, Kids: append([]api.Node{l.Node}, others...)}, nil, l.Err)
+		p.NoTree(t, l.Node, l.Err)
+		p.NoTree(t, api.Node{Kind: api.List, Kids: append(slices.Clip(others), l.Node)}, l.Err)
+		p.NoTree(t, api.Node{Kind: api.List, Kids: append([]api.Node{l.Node}, others...)}, l.Err)
 	}
+}
+
+// NoTree holds the error of a node that is no tree.
+func (p Printer) NoTree(t checks.T, n api.Node, want api.Errno) {
+	t.Helper()
+	p.refused(t, n, nil, want)
 }

@@ -64,11 +64,15 @@ func each(p prints.Printer) map[string]func(t checks.T) {
 		"Check":     func(t checks.T) { p.Check(t, trees.Read("[ 1 ]")) },
 		"Check bad": func(t checks.T) { p.Check(t, trees.Read("[ 1 <e > ]")) },
 		"Good":      func(t checks.T) { p.Good(t, "[ 1 ]", "[1]") },
+		"Goods":     func(t checks.T) { p.Goods(t, map[string]string{"[ 1 ]": "[1]", "[ 2 ]": "[2]"}) },
 		"Bad":       func(t checks.T) { p.Bad(t, "[ 1 ^<e > ]") },
 		"NoTrees":   func(t checks.T) { p.NoTrees(t) },
+		"NoTree":    func(t checks.T) { p.NoTree(t, api.Node{Kind: api.Key}, api.ErrEvents) },
 		"Distinct":  func(t checks.T) { p.Distinct(t, text, trees.Read("[ 1 ]"), trees.Read("[ 2 ]")) },
+		"Differ":    func(t checks.T) { p.Differ(t, text, "[ 1 ]", "[ 2 ]") },
 		"Random":    func(t checks.T) { p.Random(t, m, small, text) },
-		"Apart":     func(t checks.T) { p.Apart(t, "[ 1 [ 2 ] ]", "[ 1 [ ^<e > ] ]") },
+		"Spare":     func(t checks.T) { p.Spare(t, "[ 1 [ 2 ] ]") },
+		"Apart":     func(t checks.T) { p.Apart(t, "[ 1 [ ^<e > ] ]") },
 	}
 }
 
@@ -102,28 +106,34 @@ func TestWanted(t *testing.T) {
 	one := func(api.Node) string { return "1" }
 	for name, check := range map[string]func(t checks.T){
 		"text":  func(t checks.T) { right.Good(t, "[ 1 ]", "[ 1 ]") },
+		"texts": func(t checks.T) { right.Goods(t, map[string]string{"[ 1 ]": "[1]", "[ 2 ]": "[1]"}) },
 		"none":  func(t checks.T) { right.Good(t, "<e >", "") },
 		"place": func(t checks.T) { right.Bad(t, "[ ^1 <e > ]") },
 		"all":   func(t checks.T) { right.Bad(t, "[ ^<e > ]", "^1") },
+		"same":  func(t checks.T) { right.Differ(t, text, "1", "2", "1") },
+		"fewer": func(t checks.T) { right.Differ(t, text, "1", "<e >") },
+		"other": func(t checks.T) { right.Differ(t, one, "2", "3") },
+		"tree":  func(t checks.T) { right.NoTree(t, trees.Read("1"), api.OK) },
+		"error": func(t checks.T) { right.NoTree(t, api.Node{}, api.ErrTwice) },
 		"model": func(t checks.T) { right.Distinct(t, one, trees.Read("1"), trees.Read("2")) },
 		"many":  func(t checks.T) { right.Random(t, maker(), func() api.Node { return trees.Read("2") }, one) },
-		"path":  func(t checks.T) { right.Apart(t, "1", "[ 1 ^[ <e > ] ]") },
+		"path":  func(t checks.T) { right.Apart(t, "[ 1 ^[ <e > ] ]") },
 	} {
 		checks.Expect(t, name, true, check)
 	}
 }
 
 func TestWrongText(t *testing.T) {
-	good := []string{"Check", "Good", "Distinct", "Random", "Apart"}
+	good := []string{"Check", "Good", "Goods", "Distinct", "Differ", "Random", "Spare"}
 	expect(t, changedText(func(string) string { return "" }), good...)
 	expect(t, changedText(func(string) string { return "1" }), good...)
 	expect(t, changedText(func(text string) string { return text + "]" }), good...)
-	expect(t, changedText(func(text string) string { return " " + text }), "Good", "Distinct", "Random") // which is decoded
-	expect(t, changedText(func(text string) string { return strings.ReplaceAll(text, "2", "3") }), "Distinct", "Random", "Apart")
+	expect(t, changedText(func(text string) string { return " " + text }), "Good", "Goods", "Distinct", "Differ", "Random") // which is decoded
+	expect(t, changedText(func(text string) string { return strings.ReplaceAll(text, "2", "3") }), "Goods", "Distinct", "Differ", "Random", "Spare")
 }
 
 func TestWrongAnswer(t *testing.T) {
-	bad := []string{"Check bad", "Bad", "NoTrees", "Random", "Apart"}
+	bad := []string{"Check bad", "Bad", "NoTrees", "NoTree", "Random", "Apart"}
 	expect(t, changed(func(text *string, _ *[]int, e *api.Errno) {
 		if *e != api.OK {
 			*text = "1"
@@ -143,12 +153,12 @@ func TestWrongAnswer(t *testing.T) {
 		if *e != api.ErrCannotCarry && *e != api.OK {
 			*place = []int{0}
 		}
-	}), "NoTrees")
+	}), "NoTrees", "NoTree")
 	expect(t, changed(func(_ *string, place *[]int, e *api.Errno) {
 		if *e == api.OK {
 			*place = []int{0}
 		}
-	}), "Check", "Good", "Distinct", "Random", "Apart")
+	}), "Check", "Good", "Goods", "Distinct", "Differ", "Random", "Spare")
 }
 
 // TestChanging asks printers that change what they are given.
@@ -159,13 +169,13 @@ func TestChanging(t *testing.T) {
 			n.Kids[i].Text += "1"
 		}
 		return text, place, e
-	}), "Check", "Check bad", "Good", "Bad", "NoTrees", "Distinct", "Random", "Apart")
+	}), "Check", "Check bad", "Good", "Goods", "Bad", "NoTrees", "Distinct", "Differ", "Random", "Spare", "Apart")
 	expect(t, with(func(n api.Node) (string, []int, api.Errno) {
 		if len(n.Kids) == 2 && len(n.Kids[1].Kids) == 1 && cap(n.Kids[1].Kids) == 2 {
 			_ = append(n.Kids[1].Kids, api.Node{})
 		}
 		return inkbrace.Print(n)
-	}), "Apart")
+	}), "Spare")
 }
 
 // TestKeeping asks a printer whose paths share memory.
@@ -174,4 +184,14 @@ func TestKeeping(t *testing.T) {
 	expect(t, changed(func(_ *string, place *[]int, _ *api.Errno) {
 		*place = kept[:copy(kept, *place)]
 	}), "Apart")
+}
+
+func TestOutside(t *testing.T) {
+	for text, want := range map[string]string{
+		"": "", "[1, 2]": "[1, 2]", `"a b"`: `""`, `( "a" ")" #n)`: `( "" "" #n)`, `"\" "`: `""`, `"\\" 1 "\\\" "`: `"" 1 ""`, `{"a":"b c","":1}`: `{"":"","":1}`, "\"\t\"\t": "\"\"\t",
+	} {
+		if got := prints.Outside(text); got != want {
+			t.Errorf("%s: %s", text, got)
+		}
+	}
 }

@@ -81,6 +81,20 @@ func LongQuoted() []Pair {
 	}
 }
 
+// Printed returns texts and the quoted strings that are printed of them.
+func Printed() []Pair {
+	list := []Pair{
+		{"", ""}, {"x", "x"}, {"a b", "a b"}, {"  ", "  "}, {"null", "null"}, {"true", "true"}, {"12", "12"}, {"#n", "#n"}, {"[1,{}]:", "[1,{}]:"}, {"#(#<@);", "#(#<@);"}, {"'/", "'/"},
+		{"é€\U0001f600", "é€\U0001f600"}, {"\x7f\u0080", "\x7f\u0080"}, {`"`, `\"`}, {`\`, `\\`}, {"\n\t\r", `\n\t\r`}, {"\b\f", `\u0008\u000c`}, {"\x00\x01\x1f", `\u0000\u0001\u001f`},
+		{"a\"b\n", `a\"b\n`}, {`","`, `\",\"`}, {`" "`, `\" \"`}, {`\"`, `\\\"`}, {`\n`, `\\n`}, {`\u0041`, `\\u0041`},
+		{strings.Repeat("x", 48), strings.Repeat("x", 48)}, {strings.Repeat("é", 24), strings.Repeat("é", 24)}, {strings.Repeat("\x01", 48), strings.Repeat(`\u0001`, 48)},
+	}
+	for i := range list {
+		list[i].Want = `"` + list[i].Want + `"`
+	}
+	return list
+}
+
 // OpenQuoted returns the beginnings of quoted strings that lack at least a byte,
 // but none that ends within a character.
 func OpenQuoted() []string {

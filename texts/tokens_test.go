@@ -83,6 +83,20 @@ func TestQuoted(t *testing.T) {
 	}
 }
 
+func TestPrinted(t *testing.T) {
+	seen := map[string]int{}
+	for _, l := range texts.Printed() {
+		if got, e := quote.Print(l.Text); got != l.Want || e != api.OK {
+			t.Errorf("%q: %s %v", l.Text, got, e)
+		}
+		seen[l.Text]++
+		seen[l.Want]++
+	}
+	if len(seen) != 2*len(texts.Printed()) {
+		t.Error(seen)
+	}
+}
+
 func TestWrongQuoted(t *testing.T) {
 	met := map[api.Errno]int{}
 	for _, l := range texts.WrongQuoted() {
